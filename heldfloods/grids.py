@@ -1,0 +1,167 @@
+"""Grids: lists or tuples of rows of one length, each a string with one digit for each pixel.
+
+The functions change no grid; those that paint return the rows of a new one.
+"""
+
+from heldfloods.checks import is_int_in
+from heldfloods.errors import BadPixel
+
+# A sign that is no colour.
+MARK = "x"
+
+
+def wrong_row(rows, most):
+    """The index of the first of some values that is no row up to the most, or not as long as the first; or None."""
+    for at, row in enumerate(rows):
+        if not is_row(row, most) or len(row) != len(rows[0]):
+            return at
+    return None
+
+
+def is_row(value, most):
+    """Whether any value is a string of digits, from one to the most."""
+    return isinstance(value, str) and value.isascii() and value.isdigit() and len(value) <= most
+
+
+def is_pixel(rows, x, y):
+    """Whether any two values are a pixel."""
+    return is_int_in(x, 0, len(rows[0])) and is_int_in(y, 0, len(rows))
+
+
+def check_pixel(rows, x, y):
+    """Raises BadPixel for any two values that are no pixel."""
+    if not is_pixel(rows, x, y):
+        raise BadPixel(x, y)
+
+
+def clipped(begin, end, size):
+    """What of the indexes from begin to end is left from 0 to the size."""
+    return (begin if begin > 0 else 0), (end if end < size else size)
+
+
+def painted(row, begin, end, sign):
+    """A row with one sign from begin to end."""
+    return row[:begin] + sign * (end - begin) + row[end:]
+
+
+def filled_rows(rows, x0, x1, y0, y1, colour):
+    """The grid with a box filled."""
+    left, right = clipped(x0, x1, len(rows[0]))
+    top, foot = clipped(y0, y1, len(rows))
+    new = list(rows)
+    if left < right:
+        for y in range(top, foot):
+            new[y] = painted(rows[y], left, right, str(colour))
+    return new
+
+
+def copied_rows(rows, box, right, down):
+    """The grid with a box copied so far to the right and so far down; box has its four integers."""
+    x0, x1, y0, y1 = box
+    width, height = len(rows[0]), len(rows)
+    x0, x1 = clipped(x0, x1, width)
+    y0, y1 = clipped(y0, y1, height)
+    # From here on the ends are those of the target.
+    x0, x1 = clipped(x0 + right, x1 + right, width)
+    y0, y1 = clipped(y0 + down, y1 + down, height)
+    new = list(rows)
+    if x0 < x1:
+        for y in range(y0, y1):
+            new[y] = rows[y][:x0] + rows[y - down][x0 - right:x1 - right] + rows[y][x1:]
+    return new
+
+
+def flipped_rows(rows, axis):
+    """The grid flipped along an axis."""
+    if axis == "across":
+        return [row[::-1] for row in rows]
+    return list(rows[::-1])
+
+
+def swapped_rows(rows, one, other):
+    """The grid with two colours in the place of each other."""
+    first, second = str(one), str(other)
+    return [row.replace(first, MARK).replace(second, first).replace(MARK, second) for row in rows]
+
+
+def grown_rows(rows, colour):
+    """The grid with a colour also at all neighbours of its pixels."""
+    outside = MARK * len(rows[0])
+    above = [outside, *rows[:-1]]
+    below = [*rows[1:], outside]
+    return [grown_row(row, up, down, str(colour)) for row, up, down in zip(rows, above, below)]
+
+
+def grown_row(row, up, down, sign):
+    """A row, between the rows above and below it, with a sign also at all neighbours of this sign."""
+    left, right = MARK + row[:-1], row[1:] + MARK
+    return "".join([
+        sign if sign in (west, east, north, south) else old
+        for old, west, east, north, south in zip(row, left, right, up, down)
+    ])
+
+
+def marked_region(rows, x, y):
+    """The grid with MARK at all pixels of the region of a pixel."""
+    sign = rows[y][x]
+    new = list(rows)
+    seeds = [(x, y)]
+    while seeds:
+        x, y = seeds.pop()
+        if new[y][x] == sign:
+            begin, end = run_begin(new[y], x), run_end(new[y], x)
+            new[y] = painted(new[y], begin, end, MARK)
+            for near in (y - 1, y + 1):
+                if 0 <= near < len(new):
+                    seeds.extend([(at, near) for at in run_seeds(new[near], begin, end, sign)])
+    return new
+
+
+def run_begin(row, x):
+    """Where the signs of a row that are equal, without a gap, to that at an index begin."""
+    return len(row[:x].rstrip(row[x]))
+
+
+def run_end(row, x):
+    """The index behind these signs."""
+    return len(row) - len(row[x:].lstrip(row[x]))
+
+
+def run_seeds(row, begin, end, sign):
+    """One index between begin and end for each run of a sign in a row that has one there."""
+    seeds = []
+    at = row.find(sign, begin, end)
+    while at >= 0:
+        seeds.append(at)
+        at = row.find(sign, run_end(row, at), end)
+    return seeds
+
+
+def region_pixels(rows, x, y):
+    """The tuple of the pixels of the region of a pixel, in order."""
+    marked = marked_region(rows, x, y)
+    return tuple([(at, line) for line, row in enumerate(marked) for at, sign in enumerate(row) if sign == MARK])
+
+
+def shortest_way(rows, start, goal):
+    """A tuple of pixels of one region from the pixel start to goal, as few as any; None if there is none."""
+    wide = len(rows[0]) + 1
+    # With a mark behind each row, and a row of marks at both ends, no step leaves the grid.
+    flat = MARK * wide + "".join([row + MARK for row in rows]) + MARK * wide
+    first, last = (start[1] + 1) * wide + start[0], (goal[1] + 1) * wide + goal[0]
+    ahead = {last: last}
+    front = [last]
+    while front and first not in ahead:
+        reached = []
+        for at in front:
+            for near in (at - 1, at + 1, at - wide, at + wide):
+                if flat[near] == flat[last] and near not in ahead:
+                    ahead[near] = at
+                    reached.append(near)
+        front = reached
+    if first not in ahead:
+        return None
+    way = [first]
+    while way[-1] != last:
+        way.append(ahead[way[-1]])
+    return tuple([(at % wide, at // wide - 1) for at in way])

@@ -1,0 +1,141 @@
+"""The document's definitions, pixel by pixel, as plainly as can be: what the program is compared with."""
+
+from heldfloods.boxes import Box
+from heldfloods.deeds import Again, Copy, Fill, Flip, Flood, Frame, Grow, Swap, When
+from heldfloods.places import Place, from_left, from_middle, from_right
+from heldfloods.programs import Program
+
+
+def at(place, size):
+    return place.slope * (size // 2) + place.offset + place.odd * (size % 2)
+
+
+def sides(box, width, height):
+    return at(box.x0, width), at(box.x1, width), at(box.y0, height), at(box.y1, height)
+
+
+def blank(width, height):
+    return {(x, y): 0 for y in range(height) for x in range(width)}
+
+
+def inside(pixel, box):
+    x0, x1, y0, y1 = box
+    return x0 <= pixel[0] < x1 and y0 <= pixel[1] < y1
+
+
+def region(pixels, start):
+    found, rest = {start}, [start]
+    while rest:
+        x, y = rest.pop()
+        for near in ((x - 1, y), (x + 1, y), (x, y - 1), (x, y + 1)):
+            if near not in found and pixels.get(near) == pixels[start]:
+                found.add(near)
+                rest.append(near)
+    return found
+
+
+def do(deed, pixels, width, height):
+    """What a deed makes of the pixels of a canvas, a dict of colours."""
+    new = dict(pixels)
+    if isinstance(deed, Fill):
+        box = sides(deed.box, width, height)
+        new.update({pixel: deed.colour for pixel in pixels if inside(pixel, box)})
+    elif isinstance(deed, Frame):
+        box = x0, x1, y0, y1 = sides(deed.box, width, height)
+        t = deed.thick
+        for x, y in pixels:
+            if inside((x, y), box) and (x < x0 + t or x >= x1 - t or y < y0 + t or y >= y1 - t):
+                new[x, y] = deed.colour
+    elif isinstance(deed, Flood):
+        start = at(deed.x, width), at(deed.y, height)
+        if start in pixels:
+            new.update({pixel: deed.colour for pixel in region(pixels, start)})
+    elif isinstance(deed, Copy):
+        box = sides(deed.box, width, height)
+        for i, j in pixels:
+            to = i + at(deed.x, width) - box[0], j + at(deed.y, height) - box[2]
+            if inside((i, j), box) and to in pixels:
+                new[to] = pixels[i, j]
+    elif isinstance(deed, Flip):
+        for x, y in pixels:
+            to = (width - 1 - x, y) if deed.axis == "across" else (x, height - 1 - y)
+            new[to] = pixels[x, y]
+    elif isinstance(deed, Swap):
+        exchange = {deed.one: deed.other, deed.other: deed.one}
+        new = {pixel: exchange.get(colour, colour) for pixel, colour in pixels.items()}
+    elif isinstance(deed, Grow):
+        for x, y in pixels:
+            if deed.colour in [pixels.get(near) for near in ((x - 1, y), (x + 1, y), (x, y - 1), (x, y + 1))]:
+                new[x, y] = deed.colour
+    elif isinstance(deed, Again):
+        for inner in list(deed.deeds) * deed.times:
+            new = do(inner, new, width, height)
+    else:
+        there = pixels.get((at(deed.x, width), at(deed.y, height))) == deed.colour
+        for inner in deed.deeds if there else deed.others:
+            new = do(inner, new, width, height)
+    return new
+
+
+def rows(pixels, width, height):
+    return tuple("".join(str(pixels[x, y]) for x in range(width)) for y in range(height))
+
+
+def paint(program, width, height):
+    """The rows of the picture of a program."""
+    pixels = blank(width, height)
+    for deed in program.deeds:
+        pixels = do(deed, pixels, width, height)
+    return rows(pixels, width, height)
+
+
+class Maker:
+    """Makes deeds and programs from a random source."""
+
+    def __init__(self, source):
+        self.source = source
+
+    def place(self):
+        k = self.source.randint(-2, 4)
+        kind = self.source.randint(0, 3)
+        if kind == 3:
+            return Place(self.source.randint(-1, 3), k, self.source.randint(-1, 2))
+        return (from_left, from_right, from_middle)[kind](k)
+
+    def box(self):
+        if self.source.random() < 0.5:
+            return Box(self.place(), self.place(), self.place(), self.place())
+        return Box(from_left(self.source.randint(-1, 2)), from_right(self.source.randint(-1, 2)),
+                   from_left(self.source.randint(-1, 2)), from_right(self.source.randint(-1, 2)))
+
+    def colour(self):
+        return self.source.randint(0, 3)
+
+    def deed(self, deep=0):
+        kind = self.source.randint(0, 8 if deep < 2 else 6)
+        if kind == 0:
+            return Fill(self.box(), self.colour())
+        if kind == 1:
+            return Frame(self.box(), self.colour(), self.source.randint(1, 3))
+        if kind == 2:
+            return Flood(self.place(), self.place(), self.colour())
+        if kind == 3:
+            return Copy(self.box(), self.place(), self.place())
+        if kind == 4:
+            return Flip(self.source.choice(["across", "down"]))
+        if kind == 5:
+            return Swap(self.colour(), self.colour())
+        if kind == 6:
+            return Grow(self.colour())
+        inner = [self.deed(deep + 1) for _ in range(self.source.randint(0, 2))]
+        if kind == 7:
+            return Again(self.source.randint(0, 2), *inner)
+        return When(self.place(), self.place(), self.colour(), inner, [self.deed(deep + 1)])
+
+    def program(self):
+        deeds = [Frame(self.box(), self.colour()), Fill(self.box(), self.colour())]
+        while len(deeds) < 5:
+            deed = self.deed()
+            if len(list(deed.each())) <= 4:
+                deeds.append(deed)
+        return Program(*deeds)

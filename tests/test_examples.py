@@ -1,0 +1,98 @@
+"""The examples of the document, for the modules that are built, word by word."""
+
+from heldfloods.boxes import Box
+from heldfloods.canvases import Canvas
+from heldfloods.deeds import Again, Boxed, Coloured, Copy, Fill, Flip, Flood, Frame, Grow, Pointed, When
+from heldfloods.errors import BadPicture, BadPixel, BadPlace, BadText, NoDeed, TooMany, Unlike
+from heldfloods.pictures import Picture
+from heldfloods.places import Place, first_beyond, from_left, from_middle, from_right
+from heldfloods.programs import Program
+from tests.helpers import Case
+
+
+class Examples(Case):
+    def test_places(self):
+        self.assertEqual(
+            [from_left(2)(5), from_right(2)(5), from_middle()(5), (~from_middle())(5), str(~from_left(3)),
+             str(~from_middle()), str(1 + from_right(2))],
+            [2, 3, 2, 3, 'right 3', 'place 1 0 1', 'right 1'])
+        self.assertEqual(
+            [from_left(2) <= from_right(2), from_left() <= from_middle(), from_middle() < from_right(),
+             first_beyond(from_left(2), from_right(2)), first_beyond(from_middle(3), from_right())],
+            [False, True, True, 1, 1])
+        self.refused(BadText(0, 1), Place.read, "right 02")
+
+    def test_pictures(self):
+        picture = Picture(["0110", "0010", "1000"])
+        self.assertEqual(
+            [picture[2, 1], 2 in picture, picture.area(1), picture.region(2, 0), picture.way(1, 0, 2, 1),
+             picture.way(1, 0, 0, 2)],
+            [1, False, 4, ((1, 0), (2, 0), (2, 1)), ((1, 0), (2, 0), (2, 1)), None])
+        other = Picture(("0220", "0010", "0000"))
+        self.assertEqual(
+            [(picture | other) == picture, (other | picture).rows, (picture & other).rows, (picture ^ other).rows],
+            [True, ('0220', '0010', '1000'), ('0000', '0010', '0000'), ('0110', '0000', '1000')])
+        self.assertEqual(
+            [other <= picture, picture & other < picture, str(~picture), picture.flipped("down").rows],
+            [False, True, '0110\n0100\n0001', ('1000', '0010', '0110')])
+        self.refused(BadPixel(4, 0), lambda: picture[4, 0])
+        self.refused(BadPicture(1), Picture, ["01", "012"])
+        self.refused(BadText(1, 0), Picture.read, "01\n2")
+
+    def test_canvases(self):
+        canvas = Canvas(4, 3)
+        canvas.fill(1, 9, -2, 1, 1)
+        canvas[2, 1] = 1
+        self.assertEqual([canvas.flood(3, 0, 5), canvas.shown.rows, canvas.flood(4, 0, 1)],
+                         [4, ('0555', '0050', '0000'), 0])
+        self.assertEqual([canvas.tried(lambda same: same.flood(0, 0, 7)), canvas.shown.area(7)], [8, 0])
+        canvas |= Picture(["0000", "0002", "3000"])
+        self.assertEqual([str(canvas.shown), canvas[3, 1]], ['0555\n0052\n3000', 2])
+
+        def put():
+            canvas[0, 3] = 10
+
+        def show():
+            canvas.shown = Picture(["0000"])
+
+        self.refused(BadPixel(0, 3), put)
+        self.refused(Unlike(), show)
+
+    def test_boxes(self):
+        box = Box(0, from_left(2), 0, from_right())
+        self.assertEqual([box(5, 3), (~box)(5, 3), Box.inside(1)(5, 3), ~~box == box, Box.whole() == Box.inside(0)],
+                         [(0, 2, 0, 3), (3, 5, 0, 3), (1, 4, 1, 2), True, True])
+
+    def test_deeds(self):
+        box = Box(0, from_left(2), 0, from_right())
+        copy = Copy(box, 1, 0)
+        self.assertEqual(
+            [(~copy).x(3), (~copy).box(3, 1), isinstance(copy, Boxed), isinstance(copy, Pointed),
+             isinstance(copy, Coloured)],
+            [0, (1, 3, 0, 1), True, True, False])
+        canvas = Canvas(5, 4)
+        self.assertIsNone(Frame(Box.whole(), 1).on(canvas))
+        self.assertIsNone(Flood(from_middle(), from_middle(), 2).on(canvas))
+        self.assertEqual(str(canvas.shown), '11111\n12221\n12221\n11111')
+        self.assertIsNone(When(0, 0, 1, [Fill(Box(0, 1, 0, 1), 3), Flip("across")], [Grow(1)]).on(canvas))
+        self.assertEqual(
+            [canvas[4, 0], canvas[0, 0], len(list(Again(2, Again(0), Grow(1)).each())),
+             str(Flood(0, from_right(1), 7))],
+            [3, 1, 3, 'flood left 0 right 1 7'])
+        self.assertEqual(str(When(0, 0, 1, [Grow(2)])), 'when left 0 left 0 1\ngrow 2\nend')
+        self.refused(BadPlace('x'), When, None, 0, 12, 7)
+
+    def test_programs(self):
+        ring = Program(Frame(Box.whole(), 1), Flood(from_middle(), from_middle(), 2))
+        self.assertEqual(
+            [str(ring(4, 3)), str(ring(2, 2)), ring.floods, len(ring), Flip("down") in ring, (ring * 2).done],
+            ['1111\n1221\n1111', '22\n22', 1, 2, False, 4])
+        both = Flip("down") + ring
+        both += Flip("across")
+        self.assertEqual(
+            [len(both), both.without(0)[0] == ring[0], both.exchanged(0)[1] == both[0], both[-1] == Flip("across")],
+            [4, True, True, True])
+        when = Program(When(0, 0, 0, ring.deeds, [Grow(1)]), Again(3, *ring.deeds))
+        self.assertEqual([when.said, when.done, when.deep, when.floods, ~~when == when], [7, 10, 2, 2, True])
+        self.refused(TooMany('said', 16), lambda: ring * 9)
+        self.refused(NoDeed(1), ring.exchanged, 1)
