@@ -100,8 +100,8 @@ class Refused(Case):
         for value in others(lambda value: isinstance(value, str) and value.isdigit() and len(value) <= 200):
             self.refused(BadPicture(0), Picture, [value])
             self.refused(BadPicture(2), Picture, ("0", "1", value, value))
-        wrong = ["0a", "a0", " 0", "0 ", "0\n", "-1", "1.", "\u0661\u0662", "\u00b2\u00b2", b"01", ["0", "1"], "0", "012",
-                 ""]
+        wrong = ["0a", "a0", " 0", "0 ", "0\n", "-1", "1.", "\u0661\u0662", "\u00b2\u00b2", b"01", ["0", "1"], "0",
+                 "012", ""]
         for row in wrong:
             self.refused(BadPicture(1), Picture, ["01", row, None])
         self.refused(BadPicture(0), Picture, ["0" * 201, "0" * 201])
