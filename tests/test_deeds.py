@@ -24,7 +24,8 @@ def one_of_each():
     return [
         Fill(WHOLE, 1), Fill(WHOLE, 2), Fill(box, 1), Frame(WHOLE, 1), Frame(WHOLE, 2), Frame(box, 1),
         Frame(WHOLE, 1, 2), Flood(0, 0, 1), Flood(1, 0, 1), Flood(0, 1, 1), Flood(0, 0, 2), Copy(WHOLE, 0, 0),
-        Copy(box, 0, 0), Copy(WHOLE, 1, 0), Copy(WHOLE, 0, 1), Flip("across"), Flip("down"), Swap(1, 2), Swap(2, 1), Swap(1, 1),
+        Copy(box, 0, 0), Copy(WHOLE, 1, 0), Copy(WHOLE, 0, 1), Flip("across"), Flip("down"),
+        Swap(1, 2), Swap(2, 1), Swap(1, 1),
         Grow(1), Grow(2), Again(1), Again(2), Again(1, Grow(1)), Again(1, Grow(1), Grow(1)), Again(1, Grow(2)),
         When(0, 0, 1, []), When(1, 0, 1, []), When(0, 1, 1, []), When(0, 0, 2, []), When(0, 0, 1, [Grow(1)]),
         When(0, 0, 1, [], [Grow(1)]), When(0, 0, 1, [Grow(1)], [Grow(1)]), When(0, 0, 1, [Again(1)]),
