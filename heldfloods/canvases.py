@@ -37,10 +37,18 @@ class Canvas:
         """How many pixels each row has."""
         return len(self._rows[0])
 
+    @width.setter
+    def width(self, value):
+        raise AttributeError("a canvas keeps its size")
+
     @property
     def height(self):
         """How many rows there are."""
         return len(self._rows)
+
+    @height.setter
+    def height(self, value):
+        raise AttributeError("a canvas keeps its size")
 
     def __getitem__(self, at):
         x, y = at

@@ -108,11 +108,12 @@ def marked_region(rows, x, y):
     seeds = [(x, y)]
     while seeds:
         x, y = seeds.pop()
-        if new[y][x] == sign:
-            begin, end = run_begin(new[y], x), run_end(new[y], x)
-            new[y] = painted(new[y], begin, end, MARK)
+        row = new[y]
+        if row[x] == sign:
+            begin, end = run_begin(row, x), run_end(row, x)
+            new[y] = painted(row, begin, end, MARK)
             for near in (y - 1, y + 1):
-                if 0 <= near < len(new):
+                if 0 <= near < len(new) and sign in new[near]:
                     seeds.extend([(at, near) for at in run_seeds(new[near], begin, end, sign)])
     return new
 
@@ -137,31 +138,72 @@ def run_seeds(row, begin, end, sign):
     return seeds
 
 
+def runs(rows, sign):
+    """The list of (y, begin, end) for all runs of a sign in a grid, in order."""
+    found = []
+    for y, row in enumerate(rows):
+        begin = row.find(sign)
+        while begin >= 0:
+            end = run_end(row, begin)
+            found.append((y, begin, end))
+            begin = row.find(sign, end)
+    return found
+
+
 def region_pixels(rows, x, y):
     """The tuple of the pixels of the region of a pixel, in order."""
     marked = marked_region(rows, x, y)
-    return tuple([(at, line) for line, row in enumerate(marked) for at, sign in enumerate(row) if sign == MARK])
+    return tuple([(at, line) for line, begin, end in runs(marked, MARK) for at in range(begin, end)])
 
 
 def shortest_way(rows, start, goal):
     """A tuple of pixels of one region from the pixel start to goal, as few as any; None if there is none."""
+    if marked_region(rows, start[0], start[1])[goal[1]][goal[0]] != MARK:
+        return None
     wide = len(rows[0]) + 1
     # With a mark behind each row, and a row of marks at both ends, no step leaves the grid.
-    flat = MARK * wide + "".join([row + MARK for row in rows]) + MARK * wide
+    board = list(MARK * wide + "".join([row + MARK for row in rows]) + MARK * wide)
     first, last = (start[1] + 1) * wide + start[0], (goal[1] + 1) * wide + goal[0]
-    ahead = {last: last}
-    front = [last]
-    while front and first not in ahead:
-        reached = []
-        for at in front:
-            for near in (at - 1, at + 1, at - wide, at + wide):
-                if flat[near] == flat[last] and near not in ahead:
-                    ahead[near] = at
-                    reached.append(near)
-        front = reached
-    if first not in ahead:
-        return None
-    way = [first]
-    while way[-1] != last:
-        way.append(ahead[way[-1]])
-    return tuple([(at % wide, at // wide - 1) for at in way])
+    search(board, wide, first, last)
+    way = [last]
+    while way[-1] != first:
+        way.append(board[way[-1]])
+    return tuple([(at % wide, at // wide - 1) for at in way[::-1]])
+
+
+def search(board, wide, first, last):
+    """Puts into each cell that it reaches the index of the cell ahead of it on a shortest way from the first one.
+
+    The last cell can be reached. A step towards it leaves the least length of a way through a cell as it is, any
+    other step adds 2 to it; so all ways with the least length so far are followed ahead of those with 2 more.
+    """
+    sign = board[first]
+    goal_x, goal_y = last % wide, last // wide
+    board[first] = first
+    front, passed = [first], []
+    while board[last] == sign:
+        if not front:
+            front = spread(board, wide, passed, sign)
+            passed = []
+        at = front.pop()
+        passed.append(at)
+        x, y = at % wide, at // wide
+        beside = at + 1 if x < goal_x else at - 1
+        if x != goal_x and board[beside] == sign:
+            board[beside] = at
+            front.append(beside)
+        beside = at + wide if y < goal_y else at - wide
+        if y != goal_y and board[beside] == sign:
+            board[beside] = at
+            front.append(beside)
+
+
+def spread(board, wide, passed, sign):
+    """The list of the board beside those passed that were not reached; now each has the index of the one ahead."""
+    reached = []
+    for at in passed:
+        for beside in (at - 1, at + 1, at - wide, at + wide):
+            if board[beside] == sign:
+                board[beside] = at
+                reached.append(beside)
+    return reached

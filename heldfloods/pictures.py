@@ -36,10 +36,18 @@ class Picture:
         """How many pixels each row has."""
         return len(self._rows[0])
 
+    @width.setter
+    def width(self, value):
+        raise AttributeError("a picture never changes")
+
     @property
     def height(self):
         """How many rows there are."""
         return len(self._rows)
+
+    @height.setter
+    def height(self, value):
+        raise AttributeError("a picture never changes")
 
     def __getitem__(self, at):
         x, y = at

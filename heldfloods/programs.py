@@ -42,6 +42,10 @@ class Program:
         """The tuple of the deeds outside of blocks."""
         return self._deeds
 
+    @deeds.setter
+    def deeds(self, value):
+        raise AttributeError("a program never changes")
+
     @property
     def said(self):
         """How many deeds are said, those in blocks too."""

@@ -30,6 +30,13 @@ class Made(Case):
         for name in ("width", "height", "shown"):
             self.assertIsInstance(vars(Canvas)[name], property)
 
+    def test_the_size_stays(self):
+        canvas = Canvas(3, 2)
+        for name in ("width", "height"):
+            with self.assertRaises(AttributeError):
+                setattr(canvas, name, 1)
+        self.assertEqual((canvas.width, canvas.height, canvas.shown.rows), (3, 2, ("000", "000")))
+
     def test_no_sizes(self):
         for value in no_sizes(200):
             self.refused(BadSize("width"), Canvas, value, None)

@@ -50,3 +50,26 @@ class Layout(unittest.TestCase):
             tree = ast.parse((PACKAGE / f"{name}.py").read_text(encoding="utf-8"))
             defined = [node.name for node in tree.body if isinstance(node, (ast.FunctionDef, ast.ClassDef))]
             self.assertEqual([thing for thing in wanted if thing not in defined], [], name)
+
+    def test_attributes_with_the_name_of_a_property(self):
+        assigned, bare = set(), {}
+        for path in FILES:
+            for node in ast.walk(ast.parse(path.read_text(encoding="utf-8"))):
+                if isinstance(node, ast.Attribute) and isinstance(node.ctx, ast.Store):
+                    assigned.add(node.attr)
+                if isinstance(node, ast.ClassDef):
+                    for name in properties(node) - setters(node):
+                        bare.setdefault(name, []).append(node.name)
+        self.assertEqual({name: bare[name] for name in bare if name in assigned}, {})
+
+
+def properties(tree):
+    """The names of the properties of a class."""
+    return {node.name for node in tree.body if isinstance(node, ast.FunctionDef)
+            and any(isinstance(sign, ast.Name) and sign.id == "property" for sign in node.decorator_list)}
+
+
+def setters(tree):
+    """The names of those that have a setter."""
+    return {node.name for node in tree.body if isinstance(node, ast.FunctionDef)
+            and any(isinstance(sign, ast.Attribute) and sign.attr == "setter" for sign in node.decorator_list)}

@@ -48,6 +48,13 @@ class Made(Case):
             self.assertIsInstance(vars(Picture)[name], property)
         self.assertEqual(Picture.MOST, 200)
 
+    def test_never_changed(self):
+        picture = Picture(["012", "345"])
+        for name in ("rows", "width", "height"):
+            with self.assertRaises(AttributeError):
+                setattr(picture, name, 1)
+        self.assertEqual((picture.rows, picture.width, picture.height), (("012", "345"), 3, 2))
+
     def test_later_changes_have_no_effect(self):
         rows = ["01", "23"]
         picture = Picture(rows)
@@ -187,6 +194,51 @@ class Regions(Case):
 
     def test_way_by_name(self):
         self.assertEqual(Picture(["000"]).way(x=2, y=0, to_x=0, to_y=0), ((2, 0), (1, 0), (0, 0)))
+
+    def test_one_colour_at_the_greatest_size(self):
+        full = Picture.plain(200, 200, 3)
+        every = tuple((x, y) for y in range(200) for x in range(200))
+        for x, y in ((5, 5), (0, 0), (199, 199), (0, 199)):
+            self.same(full.region(x, y), every)
+        for start, goal in (((0, 0), (199, 199)), ((199, 0), (0, 199)), ((7, 150), (7, 3)), ((3, 7), (150, 7))):
+            self.look_at_way(full, start, goal, abs(start[0] - goal[0]) + abs(start[1] - goal[1]))
+            self.look_at_way(full, goal, start, abs(start[0] - goal[0]) + abs(start[1] - goal[1]))
+        begun = time.process_time()
+        for _ in range(5):
+            full.way(0, 0, 199, 199)
+            full.region(5, 5)
+        # Some 25 ms here.
+        self.assertLess(time.process_time() - begun, 1)
+
+    def test_many_regions(self):
+        source = random.Random(11)
+        for colours in (2, 2, 3, 4):
+            picture = some_picture(source, 40, 40, colours)
+            pixels = pixels_of(picture)
+            seen = set()
+            for start in pixels:
+                if start not in seen:
+                    steps = distances(pixels, start)
+                    seen.update(steps)
+                    wanted = tuple(sorted(steps, key=lambda pixel: (pixel[1], pixel[0])))
+                    self.same(picture.region(*start), wanted)
+                    for goal in source.sample(sorted(steps), min(4, len(steps))):
+                        self.look_at_way(picture, start, goal, steps[goal])
+                        self.look_at_way(picture, goal, start, steps[goal])
+
+    def test_ways_round_about(self):
+        # Each way first has to lead away from its goal.
+        cup = Picture(["0" * 60, "0" + "1" * 58 + "0", *["01" + "0" * 56 + "10"] * 50, "0" * 60])
+        wall = Picture([*["0" * 30 + "1" + "0" * 29] * 50, "0" * 60])
+        for picture, start, goal in ((cup, (30, 20), (30, 0)), (cup, (2, 2), (0, 2)), (wall, (0, 0), (59, 0))):
+            steps = distances(pixels_of(picture), start)
+            self.look_at_way(picture, start, goal, steps[goal])
+            self.look_at_way(picture, goal, start, steps[goal])
+        rows, _ = winding(60)
+        steps = distances(pixels_of(rows), (0, 0))
+        for goal in ((0, 58), (59, 56), (30, 30), (59, 1)):
+            self.look_at_way(rows, (0, 0), goal, steps[goal])
+            self.look_at_way(rows, goal, (0, 0), steps[goal])
 
     def test_long_winding_regions(self):
         picture, many = winding(200)

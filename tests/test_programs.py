@@ -60,6 +60,13 @@ class Counted(Case):
         self.assertEqual((Program.SAID, Program.DONE, Program.DEEP), (16, 48, 4))
         self.assertIs(type(THREE.deeds), tuple)
 
+    def test_never_changed(self):
+        program = Program(Grow(1), Flood(0, 0, 2))
+        for name in ("deeds", "said", "done", "deep", "floods"):
+            with self.assertRaises(AttributeError):
+                setattr(program, name, ())
+        self.assertEqual((program.deeds, program.said), ((Grow(1), Flood(0, 0, 2)), 2))
+
     def test_each(self):
         when = When(0, 0, 0, [Grow(1), Again(0, Grow(2))], [Grow(3)])
         program = Program(when, Grow(4))
