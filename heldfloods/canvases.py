@@ -2,7 +2,8 @@
 
 from heldfloods.checks import check_colour, check_side
 from heldfloods.errors import Unlike
-from heldfloods.grids import MARK, check_pixel, filled_rows, is_pixel, marked_region, painted
+from heldfloods.grids import MARK, check_pixel, is_pixel, marked_region, painted
+from heldfloods.grids import copied_rows, filled_rows, flipped_rows, grown_rows, swapped_rows
 from heldfloods.pictures import Picture
 
 
@@ -103,6 +104,26 @@ class Canvas:
         marked = marked_region(self._rows, x, y)
         self._rows = [row.replace(MARK, str(colour)) for row in marked]
         return sum([row.count(MARK) for row in marked])
+
+    def has(self, x, y, colour):
+        """Whether what has these two integers is a pixel with the colour."""
+        return is_pixel(self._rows, x, y) and self._rows[y][x] == str(colour)
+
+    def copy_box(self, box, right, down):
+        """Copies the box with these four integers so far to the right and so far down."""
+        self._rows = copied_rows(self._rows, box, right, down)
+
+    def flip(self, axis):
+        """Flips all pixels along an axis."""
+        self._rows = flipped_rows(self._rows, axis)
+
+    def swap(self, one, other):
+        """Gives the pixels of two colours the other one of the two."""
+        self._rows = swapped_rows(self._rows, one, other)
+
+    def grow(self, colour):
+        """Gives the neighbours of all pixels of a colour this colour."""
+        self._rows = grown_rows(self._rows, colour)
 
     def trial(self):
         """For a `with`: behind its block the canvas shows again what it showed when the block began."""

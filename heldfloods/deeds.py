@@ -3,8 +3,6 @@
 from heldfloods.boxes import Box
 from heldfloods.checks import check_axis, check_colour, is_int, is_int_in
 from heldfloods.errors import BadDeed
-from heldfloods.grids import copied_rows, flipped_rows, grown_rows, swapped_rows
-from heldfloods.pictures import Picture
 from heldfloods.places import checked_place
 
 
@@ -152,9 +150,7 @@ class Copy(Boxed, Pointed):
     def on(self, canvas):
         """Does the deed to a canvas."""
         sides = self.box(canvas.width, canvas.height)
-        right = self.x(canvas.width) - sides[0]
-        down = self.y(canvas.height) - sides[2]
-        canvas.show(Picture(copied_rows(canvas.shown.rows, sides, right, down)))
+        canvas.copy_box(sides, self.x(canvas.width) - sides[0], self.y(canvas.height) - sides[2])
 
     def each(self):
         """Yields the deed."""
@@ -179,7 +175,7 @@ class Flip(Deed):
 
     def on(self, canvas):
         """Does the deed to a canvas."""
-        canvas.show(Picture(flipped_rows(canvas.shown.rows, self.axis)))
+        canvas.flip(self.axis)
 
     def each(self):
         """Yields the deed."""
@@ -206,7 +202,7 @@ class Swap(Deed):
 
     def on(self, canvas):
         """Does the deed to a canvas."""
-        canvas.show(Picture(swapped_rows(canvas.shown.rows, self.one, self.other)))
+        canvas.swap(self.one, self.other)
 
     def each(self):
         """Yields the deed."""
@@ -231,7 +227,7 @@ class Grow(Coloured):
 
     def on(self, canvas):
         """Does the deed to a canvas."""
-        canvas.show(Picture(grown_rows(canvas.shown.rows, self.colour)))
+        canvas.grow(self.colour)
 
     def each(self):
         """Yields the deed."""
@@ -296,12 +292,11 @@ class When(Pointed, Coloured, Blocked):
 
     def on(self, canvas):
         """Does the deed to a canvas."""
-        x, y = self.x(canvas.width), self.y(canvas.height)
-        there = 0 <= x < canvas.width and 0 <= y < canvas.height
-        if there and canvas[x, y] == self.colour:
-            do_all(self.deeds, canvas)
-        else:
-            do_all(self.others, canvas)
+        do_all(self.deeds if self.applies(canvas) else self.others, canvas)
+
+    def applies(self, canvas):
+        """Whether the deeds, not the others, are to be done to a canvas as it is."""
+        return canvas.has(self.x(canvas.width), self.y(canvas.height), self.colour)
 
     def each(self):
         """Yields the deed, and then what its deeds and its others yield."""

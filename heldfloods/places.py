@@ -61,7 +61,8 @@ class Place:
         return NotImplemented
 
     def __invert__(self):
-        return Place(2 - self._slope, -self._offset, 1 - self._odd)
+        slope, offset, odd = mirrored_parts(parts_of(self))
+        return Place(slope, offset, odd)
 
     def __eq__(self, other):
         return isinstance(other, Place) and parts_of(self) == parts_of(other)
@@ -149,6 +150,12 @@ def never_below(place, least):
 def parts_of(place):
     """The three integers of a place."""
     return place.slope, place.offset, place.odd
+
+
+def mirrored_parts(parts):
+    """The three integers of the mirror of the place with these ones."""
+    slope, offset, odd = parts
+    return 2 - slope, -offset, 1 - odd
 
 
 def checked_place(value, part):

@@ -3,7 +3,7 @@
 from heldfloods.canvases import Canvas
 from heldfloods.checks import is_int, is_int_in
 from heldfloods.deeds import Again, Deed, Flood, When, do_all
-from heldfloods.errors import BadDeed, BadProgram, NoDeed, TooMany
+from heldfloods.errors import BadDeed, BadProgram, NoDeed, NoFlood, TooMany
 
 
 class Program:
@@ -18,11 +18,10 @@ class Program:
             if not isinstance(deed, Deed):
                 raise BadProgram(at)
         self._deeds = deeds
-        said = said_deeds(deeds)
-        self._said = len(said)
+        self._said = len(said_deeds(deeds))
         self._done = most_done(deeds)
         self._deep = depth(deeds)
-        self._floods = len([deed for deed in said if isinstance(deed, Flood)])
+        self._floods = floods_said(deeds)
         if self._said > Program.SAID:
             raise TooMany("said", Program.SAID)
         if self._done > Program.DONE:
@@ -159,6 +158,11 @@ def said_deeds(deeds):
     return said
 
 
+def floods_said(deeds):
+    """How many of some deeds are Floods, those in their blocks too."""
+    return len([deed for deed in said_deeds(deeds) if isinstance(deed, Flood)])
+
+
 def most_done(deeds):
     """How many of some deeds are done at most, those in their blocks too."""
     many = 0
@@ -189,3 +193,15 @@ def inner_deeds(deed):
     if isinstance(deed, When):
         return deed.deeds + deed.others
     return ()
+
+
+def check_program(value, at):
+    """Raises BadProgram with the index of the argument for any value that is no program."""
+    if not isinstance(value, Program):
+        raise BadProgram(at)
+
+
+def check_flood(program, index):
+    """Raises NoFlood for any value that is no number of a flood of the program."""
+    if not is_int_in(index, 0, program.floods):
+        raise NoFlood(index)

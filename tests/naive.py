@@ -89,6 +89,123 @@ def paint(program, width, height):
     return rows(pixels, width, height)
 
 
+def floods_in(deed):
+    return sum(isinstance(inner, Flood) for inner in deed.each())
+
+
+def unrolled(deeds, number, pixels, width, height):
+    """Yields (deed, number of a flood, pixels ahead of it, pixels behind it), in time; the deeds have no own numbers."""
+    for deed in deeds:
+        if isinstance(deed, Again):
+            rounds = [(deed.deeds, number)] * deed.times
+        elif isinstance(deed, When):
+            there = pixels.get((at(deed.x, width), at(deed.y, height))) == deed.colour
+            ahead = sum(floods_in(inner) for inner in deed.deeds)
+            rounds = [(deed.deeds, number) if there else (deed.others, number + ahead)]
+        else:
+            behind = do(deed, pixels, width, height)
+            yield deed, number, pixels, behind
+            pixels, rounds = behind, []
+        for inner, first in rounds:
+            for step in unrolled(inner, first, pixels, width, height):
+                pixels = step[3]
+                yield step
+        number += floods_in(deed)
+
+
+def history(program, width, height):
+    """What is done by a program, as `unrolled` tells it."""
+    return list(unrolled(program.deeds, 0, blank(width, height), width, height))
+
+
+def flood_regions(program, width, height, index):
+    """The regions of a flood, in time, each as a set."""
+    found = []
+    for deed, number, pixels, _ in history(program, width, height):
+        if isinstance(deed, Flood) and number == index:
+            start = at(deed.x, width), at(deed.y, height)
+            if start in pixels:
+                found.append(region(pixels, start))
+    return found
+
+
+def in_order(pixels):
+    return tuple(sorted(pixels, key=lambda pixel: (pixel[1], pixel[0])))
+
+
+def colour_of(deeds, pixel, width, height):
+    """The colour of a pixel behind some deeds, none of them a Flood, an Again or a When, on a canvas of any size."""
+    x, y = pixel
+    if not deeds:
+        return 0
+    deed, rest = deeds[-1], deeds[:-1]
+    if isinstance(deed, (Fill, Frame)):
+        x0, x1, y0, y1 = sides(deed.box, width, height)
+        t = deed.thick if isinstance(deed, Frame) else None
+        if inside(pixel, (x0, x1, y0, y1)) and (
+                t is None or x < x0 + t or x >= x1 - t or y < y0 + t or y >= y1 - t):
+            return deed.colour
+        return colour_of(rest, pixel, width, height)
+    if isinstance(deed, Flip):
+        to = (width - 1 - x, y) if deed.axis == "across" else (x, height - 1 - y)
+        return colour_of(rest, to, width, height)
+    if isinstance(deed, Swap):
+        old = colour_of(rest, pixel, width, height)
+        return {deed.one: deed.other, deed.other: deed.one}.get(old, old)
+    if isinstance(deed, Copy):
+        box = sides(deed.box, width, height)
+        source = x - at(deed.x, width) + box[0], y - at(deed.y, height) + box[2]
+        if inside(source, box) and inside(source, (0, width, 0, height)):
+            return colour_of(rest, source, width, height)
+        return colour_of(rest, pixel, width, height)
+    for near in ((x - 1, y), (x + 1, y), (x, y - 1), (x, y + 1)):
+        if inside(near, (0, width, 0, height)) and colour_of(rest, near, width, height) == deed.colour:
+            return deed.colour
+    return colour_of(rest, pixel, width, height)
+
+
+def edge_set(axis, program):
+    """The edges of a program: a set of the three integers of each."""
+    return edges_of(axis, program.deeds, {(0, 0, 0), (2, 0, 1)})
+
+
+def numbers(place):
+    return place.slope, place.offset, place.odd
+
+
+def plus(one, other, sign=1):
+    return tuple(a + sign * b for a, b in zip(one, other))
+
+
+def edges_of(axis, deeds, found):
+    """The edges found, and what some deeds add to them, in their order."""
+    across = axis == "across"
+    for deed in deeds:
+        if isinstance(deed, (Fill, Frame, Copy)):
+            box = deed.box
+            begin, end = (numbers(box.x0), numbers(box.x1)) if across else (numbers(box.y0), numbers(box.y1))
+            found = found | {begin, end}
+            if isinstance(deed, Frame):
+                found = found | {plus(begin, (0, deed.thick, 0)), plus(end, (0, -deed.thick, 0))}
+            if isinstance(deed, Copy):
+                by = plus(numbers(deed.x if across else deed.y), begin, -1)
+                found = found | {plus(one, by) for one in found}
+        elif isinstance(deed, (Flood, When)):
+            point = numbers(deed.x if across else deed.y)
+            found = found | {point, plus(point, (0, 1, 0))}
+            if isinstance(deed, When):
+                found = edges_of(axis, deed.others, edges_of(axis, deed.deeds, found))
+        elif isinstance(deed, Flip):
+            if deed.axis == axis:
+                found = found | {plus((2, 0, 1), one, -1) for one in found}
+        elif isinstance(deed, Grow):
+            found = found | {plus(one, (0, by, 0)) for one in found for by in (1, -1)}
+        elif isinstance(deed, Again):
+            for _ in range(deed.times):
+                found = edges_of(axis, deed.deeds, found)
+    return found
+
+
 class Maker:
     """Makes deeds and programs from a random source."""
 
@@ -111,6 +228,9 @@ class Maker:
     def colour(self):
         return self.source.randint(0, 3)
 
+    def flood(self):
+        return Flood(self.place(), self.place(), self.colour())
+
     def deed(self, deep=0):
         kind = self.source.randint(0, 8 if deep < 2 else 6)
         if kind == 0:
@@ -118,7 +238,7 @@ class Maker:
         if kind == 1:
             return Frame(self.box(), self.colour(), self.source.randint(1, 3))
         if kind == 2:
-            return Flood(self.place(), self.place(), self.colour())
+            return self.flood()
         if kind == 3:
             return Copy(self.box(), self.place(), self.place())
         if kind == 4:

@@ -3,11 +3,17 @@
 from heldfloods.boxes import Box
 from heldfloods.canvases import Canvas
 from heldfloods.deeds import Again, Boxed, Coloured, Copy, Fill, Flip, Flood, Frame, Grow, Pointed, When
-from heldfloods.errors import BadPicture, BadPixel, BadPlace, BadText, NoDeed, TooMany, Unlike
+from heldfloods.edges import edges
+from heldfloods.errors import BadPicture, BadPixel, BadPlace, BadText, NoDeed, NoFlood, TooMany, Unlike
 from heldfloods.pictures import Picture
 from heldfloods.places import Place, first_beyond, from_left, from_middle, from_right
+from heldfloods.player import frames, play, regions_at
 from heldfloods.programs import Program
+from heldfloods.strips import Strips
 from tests.helpers import Case
+
+
+RING = Program(Frame(Box.whole(), 1), Flood(from_middle(), from_middle(), 2))
 
 
 class Examples(Case):
@@ -83,7 +89,7 @@ class Examples(Case):
         self.refused(BadPlace('x'), When, None, 0, 12, 7)
 
     def test_programs(self):
-        ring = Program(Frame(Box.whole(), 1), Flood(from_middle(), from_middle(), 2))
+        ring = RING
         self.assertEqual(
             [str(ring(4, 3)), str(ring(2, 2)), ring.floods, len(ring), Flip("down") in ring, (ring * 2).done],
             ['1111\n1221\n1111', '22\n22', 1, 2, False, 4])
@@ -96,3 +102,32 @@ class Examples(Case):
         self.assertEqual([when.said, when.done, when.deep, when.floods, ~~when == when], [7, 10, 2, 2, True])
         self.refused(TooMany('said', 16), lambda: ring * 9)
         self.refused(NoDeed(1), ring.exchanged, 1)
+
+    def test_player(self):
+        program = Program(Frame(Box(0, from_right(), 0, from_right()), 1),
+                          Again(2, Flood(from_middle(), from_middle(), 2), Flip("down")))
+        self.assertEqual(
+            [play(program, Canvas(3, 3)), [one.rows for one in frames(program, 2, 1)]],
+            [5, [('00',), ('11',), ('22',), ('22',), ('22',), ('22',)]])
+        self.assertEqual([regions_at(program, 3, 3, 0), regions_at(program, 1, 1, 0)],
+                         [[((1, 1),), ((1, 1),)], [((0, 0),), ((0, 0),)]])
+        self.refused(NoFlood(1), regions_at, program, 3, 3, 1)
+
+    def test_edges(self):
+        fill = Program(Fill(Box(2, from_right(2), 0, from_right()), 1), Flip("across"))
+        self.assertEqual([str(place) for place in edges("across", fill)], ['left 0', 'left 2', 'right 2', 'right 0'])
+        copy = Program(Copy(Box(0, 2, 0, 1), from_right(1), 0))
+        self.assertEqual([str(place) for place in edges("across", copy)],
+                         ['left 0', 'left 2', 'right 1', 'right 0', 'right -1', 'place 4 -1 2'])
+
+    def test_strips(self):
+        great = Strips(RING, 10 ** 30, 3)
+        self.assertEqual(
+            [great.columns == (0, 1, 5 * 10 ** 29, 5 * 10 ** 29 + 1, 10 ** 30 - 1, 10 ** 30), great.rows],
+            [True, (0, 1, 2, 3)])
+        self.assertEqual(
+            [great[7, 1], great.area(2) == 10 ** 30 - 2, great.regions(0), 0 in great,
+             Strips(RING, 4, 3).picture() == RING(4, 3)],
+            [2, True, [((1, 1), (2, 1), (3, 1))], False, True])
+        self.refused(BadPixel(5, 0), great.colour_at, 5, 0)
+        self.refused(NoFlood(1), great.regions, 1)

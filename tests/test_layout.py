@@ -17,6 +17,9 @@ INTERFACE = {
     "deeds": ["Deed", "Boxed", "Pointed", "Coloured", "Blocked", "Fill", "Frame", "Flood", "Copy", "Flip", "Swap",
               "Grow", "Again", "When"],
     "programs": ["Program"],
+    "player": ["play", "frames", "regions_at"],
+    "edges": ["edges"],
+    "strips": ["Strips"],
 }
 
 

@@ -1,0 +1,126 @@
+"""Strips: the picture of a program on a canvas of any size."""
+
+from heldfloods.checks import check_colour, check_side, is_colour, is_int_in
+from heldfloods.errors import BadPixel
+from heldfloods.grids import MARK, check_pixel
+from heldfloods.paintings import Painting, ruler
+from heldfloods.pictures import Picture
+from heldfloods.programs import check_flood
+from heldfloods.sheets import cell_at, picked
+
+GREATEST = 10 ** 40
+
+
+class Strips:
+    """The picture of a program, in cells between its edges."""
+
+    def __init__(self, program, width, height):
+        check_side(width, "width", GREATEST)
+        check_side(height, "height", GREATEST)
+        across = ruler("across", width, (program,))
+        down = ruler("down", height, (program,))
+        painting = Painting(program, across, down)
+        self._program = program
+        self._columns = tuple(across.ends)
+        self._rows = tuple(down.ends)
+        self.grid = tuple(painting.sheet.grid)
+        self._marks = painting.marks
+
+    @property
+    def width(self):
+        """How many pixels each row of pixels has."""
+        return self._columns[-1]
+
+    @width.setter
+    def width(self, value):
+        raise AttributeError("strips never change")
+
+    @property
+    def height(self):
+        """How many rows of pixels there are."""
+        return self._rows[-1]
+
+    @height.setter
+    def height(self, value):
+        raise AttributeError("strips never change")
+
+    @property
+    def columns(self):
+        """The ascending tuple of the edges of the cells, from 0 to the width."""
+        return self._columns
+
+    @property
+    def rows(self):
+        """The ascending tuple of the edges of the cells, from 0 to the height."""
+        return self._rows
+
+    def __getitem__(self, at):
+        x, y = at
+        if not (is_int_in(x, 0, self.width) and is_int_in(y, 0, self.height)):
+            raise BadPixel(x, y)
+        return int(self.grid[cell_at(self._rows, y)][cell_at(self._columns, x)])
+
+    def __iter__(self):
+        # Without this Python would ask for the items 0, 1 and so on, which are no pixels.
+        raise TypeError("strips are not iterated over")
+
+    def __contains__(self, x):
+        return is_colour(x) and any([str(x) in row for row in self.grid])
+
+    def colour_at(self, i, j):
+        """The colour of a cell."""
+        check_pixel(self.grid, i, j)
+        return int(self.grid[j][i])
+
+    def area(self, colour):
+        """How many pixels have the colour."""
+        check_colour(colour)
+        wide, high = steps_of(self._columns), steps_of(self._rows)
+        return sum([high[j] * wide[i] for i, j, found in self.cells() if found == colour])
+
+    def regions(self, index):
+        """For each time that the flood with this number has a region the ascending tuple of its cells."""
+        check_flood(self._program, index)
+        return [marked_cells(marked) for marked in self._marks[index]]
+
+    def cells(self):
+        """Yields the tuples (i, j, colour) of the cells, by j and then by i."""
+        for j, row in enumerate(self.grid):
+            for i, sign in enumerate(row):
+                yield i, j, int(sign)
+
+    def picture(self):
+        """The picture itself, if it is not greater than pictures are."""
+        check_side(self.width, "width", Picture.MOST)
+        check_side(self.height, "height", Picture.MOST)
+        return Picture(stretched(self, list(range(self.width)), list(range(self.height))))
+
+    def __eq__(self, other):
+        if not isinstance(other, Strips) or (self.width, self.height) != (other.width, other.height):
+            return False
+        # Between the edges of both, both have one colour.
+        columns = merged(self.columns, other.columns)
+        rows = merged(self.rows, other.rows)
+        return stretched(self, columns, rows) == stretched(other, columns, rows)
+
+
+def steps_of(ends):
+    """How far each end of an ascending tuple is from the next one."""
+    return [high - low for low, high in zip(ends, ends[1:])]
+
+
+def marked_cells(marked):
+    """The ascending tuple of the cells (i, j) that are marked in a grid."""
+    return tuple([(i, j) for i in range(len(marked[0])) for j in range(len(marked)) if marked[j][i] == MARK])
+
+
+def merged(one, other):
+    """The ascending list of what is in two tuples of ends, without the last end of all."""
+    return sorted(set([int(end) for end in one + other]))[:-1]
+
+
+def stretched(strips, columns, rows):
+    """The grid of the colours at all x of some columns and all y of some rows."""
+    numbers = [cell_at(strips.columns, x) for x in columns]
+    lines = [picked(row, numbers) for row in strips.grid]
+    return [lines[cell_at(strips.rows, y)] for y in rows]
