@@ -45,3 +45,8 @@ class Box:
 def box_places(box):
     """The four places of a box."""
     return box.x0, box.x1, box.y0, box.y1
+
+
+def box_ends(box, axis):
+    """The begin and the end of a box on an axis."""
+    return (box.x0, box.x1) if axis == "across" else (box.y0, box.y1)

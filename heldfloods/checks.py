@@ -3,6 +3,7 @@
 from heldfloods.errors import BadColour, BadDeed, BadSize
 
 AXES = ("across", "down")
+GREATEST = 10 ** 40
 
 
 def is_int(value):
@@ -36,6 +37,12 @@ def check_side(value, part, most):
     """Raises BadSize with the name of the part for any value that is no size up to the most."""
     if not is_int_in(value, 1, most + 1):
         raise BadSize(part)
+
+
+def check_canvas(width, height):
+    """Raises BadSize for the first of any two values that is no size of a canvas, however great it may be."""
+    check_side(width, "width", GREATEST)
+    check_side(height, "height", GREATEST)
 
 
 def check_axis(value):

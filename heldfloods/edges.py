@@ -3,6 +3,7 @@
 Within the package an edge is the tuple of the three integers of its place, and a set of them a dict of True.
 """
 
+from heldfloods.boxes import box_ends
 from heldfloods.checks import check_axis
 from heldfloods.deeds import Again, Boxed, Copy, Flip, Flood, Frame, Grow, When
 from heldfloods.errors import TooMany
@@ -100,9 +101,8 @@ def check_many(found):
 
 def side_parts(axis, box):
     """The begin and the end of a box on an axis."""
-    if axis == "across":
-        return parts_of(box.x0), parts_of(box.x1)
-    return parts_of(box.y0), parts_of(box.y1)
+    begin, end = box_ends(box, axis)
+    return parts_of(begin), parts_of(end)
 
 
 def point_parts(axis, pointed):

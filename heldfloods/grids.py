@@ -112,10 +112,19 @@ def marked_region(rows, x, y):
         if row[x] == sign:
             begin, end = run_begin(row, x), run_end(row, x)
             new[y] = painted(row, begin, end, MARK)
-            for near in (y - 1, y + 1):
-                if 0 <= near < len(new) and sign in new[near]:
-                    seeds.extend([(at, near) for at in run_seeds(new[near], begin, end, sign)])
+            if y > 0:
+                add_seeds(seeds, new[y - 1], y - 1, begin, end, sign)
+            if y + 1 < len(new):
+                add_seeds(seeds, new[y + 1], y + 1, begin, end, sign)
     return new
+
+
+def add_seeds(seeds, row, y, begin, end, sign):
+    """Adds one pixel between begin and end for each run of a sign in a row that has one there."""
+    at = row.find(sign, begin, end)
+    while at >= 0:
+        seeds.append((at, y))
+        at = row.find(sign, run_end(row, at), end)
 
 
 def run_begin(row, x):
@@ -126,16 +135,6 @@ def run_begin(row, x):
 def run_end(row, x):
     """The index behind these signs."""
     return len(row) - len(row[x:].lstrip(row[x]))
-
-
-def run_seeds(row, begin, end, sign):
-    """One index between begin and end for each run of a sign in a row that has one there."""
-    seeds = []
-    at = row.find(sign, begin, end)
-    while at >= 0:
-        seeds.append(at)
-        at = row.find(sign, run_end(row, at), end)
-    return seeds
 
 
 def runs(rows, sign):

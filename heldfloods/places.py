@@ -158,10 +158,18 @@ def mirrored_parts(parts):
     return 2 - slope, -offset, 1 - odd
 
 
-def checked_place(value, part):
-    """The place that any value stands for in a box, a deed or a claim; raises BadPlace with the name of the part."""
+def bounded_place(value):
+    """The place that any value stands for in a box, a deed or a claim; None if it stands for none."""
     place = from_left(value) if is_int(value) else value
-    if not isinstance(place, Place) or not all([-BOUND <= number <= BOUND for number in parts_of(place)]):
+    if isinstance(place, Place) and all([-BOUND <= number <= BOUND for number in parts_of(place)]):
+        return place
+    return None
+
+
+def checked_place(value, part):
+    """The same; raises BadPlace with the name of the part if there is none."""
+    place = bounded_place(value)
+    if place is None:
         raise BadPlace(part)
     return place
 

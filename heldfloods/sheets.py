@@ -10,6 +10,8 @@ class Ruler:
         self.size = size
         self.ends = sorted(set([int(value) for value in values if 0 <= value <= size]))
         self.numbers = {end: at for at, end in enumerate(self.ends)}
+        # Which cell comes to each cell if all is flipped.
+        self.turned = [cell_at(self.ends, size - 1 - end) for end in self.ends[:-1]]
         self._kept = {}
 
     def span(self, begin, end):
@@ -18,10 +20,6 @@ class Ruler:
         if begin >= end:
             return 0, 0
         return self.numbers[begin], self.numbers[end]
-
-    def turned(self):
-        """The list of the cells that come to each cell if all is flipped."""
-        return [cell_at(self.ends, self.size - 1 - end) for end in self.ends[:-1]]
 
     def moved(self, begin, end, by):
         """The first cell to which something comes if what is between two edges is moved; and what comes from there on.
@@ -95,9 +93,8 @@ class Sheet:
     def flipped(self, axis):
         """The grid of the canvas flipped along an axis."""
         if axis == "across":
-            columns = self.across.turned()
-            return [picked(row, columns) for row in self.grid]
-        return [self.grid[at] for at in self.down.turned()]
+            return [picked(row, self.across.turned) for row in self.grid]
+        return [self.grid[at] for at in self.down.turned]
 
     def swap(self, one, other):
         """Gives the pixels of two colours the other one of the two."""

@@ -1,6 +1,6 @@
 """Strips: the picture of a program on a canvas of any size."""
 
-from heldfloods.checks import check_colour, check_side, is_colour, is_int_in
+from heldfloods.checks import check_canvas, check_colour, check_side, is_colour, is_int_in
 from heldfloods.errors import BadPixel
 from heldfloods.grids import MARK, check_pixel
 from heldfloods.paintings import Painting, ruler
@@ -8,15 +8,12 @@ from heldfloods.pictures import Picture
 from heldfloods.programs import check_flood
 from heldfloods.sheets import cell_at, picked
 
-GREATEST = 10 ** 40
-
 
 class Strips:
     """The picture of a program, in cells between its edges."""
 
     def __init__(self, program, width, height):
-        check_side(width, "width", GREATEST)
-        check_side(height, "height", GREATEST)
+        check_canvas(width, height)
         across = ruler("across", width, (program,))
         down = ruler("down", height, (program,))
         painting = Painting(program, across, down)

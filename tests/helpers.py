@@ -4,11 +4,14 @@ import unittest
 
 from heldfloods.boxes import Box
 from heldfloods.canvases import Canvas
+from heldfloods.claims import Claim, Mirrored, NoneLeft
+from heldfloods.classes import Sizes
 from heldfloods.deeds import Deed, Fill, Grow
 from heldfloods.errors import BadPlace
 from heldfloods.pictures import Picture
 from heldfloods.places import Place
 from heldfloods.programs import Program
+from heldfloods.strips import Strips
 
 BIG = 10 ** 12
 HUGE = 10 ** 60 - 1
@@ -20,6 +23,7 @@ DICTS = [{}, {"x": 1}, {0: 0}, {"a": [1, {"b": ()}]}]
 OBJECTS = [
     Place(0, 0), Place(1, 2, 3), Place(BIG + 1, 0), Picture(["01", "23"]), Canvas(2, 3), Box(0, 1, 0, 1),
     Fill(Box(0, 1, 0, 1), 2), Grow(1), Deed(), Program(), Program(Grow(3)), BadPlace("x"),
+    NoneLeft(2), ~Mirrored("down"), Sizes(3), Strips(Program(), 2, 3),
 ]
 CONSTANTS = [None, True, False]
 VALUES = CONSTANTS + INTEGERS + TEXTS + LISTS + TUPLES + DICTS + OBJECTS
@@ -47,8 +51,25 @@ def no_sizes(most=None):
     return others(lambda value: is_whole(value) and value >= 1 and (most is None or value <= most))
 
 
+def no_great_sizes():
+    """The values that are no sizes of a canvas, however great it may be."""
+    return no_sizes(10 ** 40) + [10 ** 40 + 1]
+
+
+def no_programs():
+    return others(lambda value: isinstance(value, Program))
+
+
+def no_boxes():
+    return others(lambda value: isinstance(value, Box))
+
+
+def no_claims():
+    return others(lambda value: isinstance(value, Claim))
+
+
 def no_places():
-    """The values that are no places in a box or a deed."""
+    """The values that are no places in a box, a deed or a claim."""
     return others(is_place)
 
 

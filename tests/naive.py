@@ -1,6 +1,7 @@
 """The document's definitions, pixel by pixel, as plainly as can be: what the program is compared with."""
 
 from heldfloods.boxes import Box
+from heldfloods.claims import Both, ColourAt, Covered, Either, Held, Mirrored, NoneLeft, Not
 from heldfloods.deeds import Again, Copy, Fill, Flip, Flood, Frame, Grow, Swap, When
 from heldfloods.places import Place, from_left, from_middle, from_right
 from heldfloods.programs import Program
@@ -164,6 +165,47 @@ def colour_of(deeds, pixel, width, height):
     return colour_of(rest, pixel, width, height)
 
 
+def outcome(claim, program, width, height):
+    """Whether a claim holds for a program on a canvas, and its fault."""
+    if isinstance(claim, Not):
+        return not outcome(claim.claim, program, width, height)[0], None
+    if isinstance(claim, Both):
+        first = outcome(claim.one, program, width, height)
+        return first if not first[0] else outcome(claim.other, program, width, height)
+    if isinstance(claim, Either):
+        first, second = (outcome(one, program, width, height) for one in (claim.one, claim.other))
+        return (True, None) if first[0] or second[0] else first
+    wrong = wrong_pixels(claim, program, width, height)
+    return (False, in_order(wrong)[0]) if wrong else (True, None)
+
+
+def wrong_pixels(claim, program, width, height):
+    """The pixels at which a claim of the first five classes fails."""
+    signs = paint(program, width, height)
+    pixels = {(x, y): int(signs[y][x]) for y in range(height) for x in range(width)}
+    if isinstance(claim, ColourAt):
+        point = at(claim.x, width), at(claim.y, height)
+        return [point] if pixels.get(point, claim.colour) != claim.colour else []
+    if isinstance(claim, NoneLeft):
+        return [pixel for pixel in pixels if pixels[pixel] == claim.colour]
+    if isinstance(claim, Covered):
+        box = sides(claim.box, width, height)
+        return [pixel for pixel in pixels if inside(pixel, box) and pixels[pixel] != claim.colour]
+    if isinstance(claim, Mirrored):
+        across = claim.axis == "across"
+        return [(x, y) for x, y in pixels
+                if pixels[x, y] != pixels[(width - 1 - x, y) if across else (x, height - 1 - y)]]
+    box = sides(claim.box, width, height)
+    found = flood_regions(program, width, height, claim.index)
+    return [pixel for pixel in pixels if not inside(pixel, box) and any(pixel in one for one in found)]
+
+
+def canvases(most_wide, most_high):
+    """The sizes of all canvases up to these, from the least on."""
+    sizes = [(width, height) for width in range(1, most_wide + 1) for height in range(1, most_high + 1)]
+    return sorted(sizes, key=lambda size: (size[0] + size[1], size[0]))
+
+
 def edge_set(axis, program):
     """The edges of a program: a set of the three integers of each."""
     return edges_of(axis, program.deeds, {(0, 0, 0), (2, 0, 1)})
@@ -230,6 +272,24 @@ class Maker:
 
     def flood(self):
         return Flood(self.place(), self.place(), self.colour())
+
+    def claim(self, floods, many=1):
+        """A claim joined of so many, for a program with so many floods."""
+        if self.source.random() < 0.2:
+            return Not(self.claim(floods, many))
+        if many > 1:
+            joined = self.source.choice([Both, Either])
+            return joined(self.claim(floods, many // 2), self.claim(floods, many - many // 2))
+        kind = self.source.randint(0, 4 if floods else 3)
+        if kind == 0:
+            return ColourAt(self.place(), self.place(), self.colour())
+        if kind == 1:
+            return NoneLeft(self.colour())
+        if kind == 2:
+            return Covered(self.box(), self.colour())
+        if kind == 3:
+            return Mirrored(self.source.choice(["across", "down"]))
+        return Held(self.source.randrange(floods), self.box())
 
     def deed(self, deep=0):
         kind = self.source.randint(0, 8 if deep < 2 else 6)

@@ -1,10 +1,14 @@
 """The examples of the document, for the modules that are built, word by word."""
 
+from heldfloods.alike import alike, needless, settled, trimmed, within
 from heldfloods.boxes import Box
 from heldfloods.canvases import Canvas
+from heldfloods.claims import ColourAt, Covered, Held, NoneLeft
+from heldfloods.classes import class_of, classes, pairs
 from heldfloods.deeds import Again, Boxed, Coloured, Copy, Fill, Flip, Flood, Frame, Grow, Pointed, When
 from heldfloods.edges import edges
 from heldfloods.errors import BadPicture, BadPixel, BadPlace, BadText, NoDeed, NoFlood, TooMany, Unlike
+from heldfloods.judge import failing, judge, safe_from
 from heldfloods.pictures import Picture
 from heldfloods.places import Place, first_beyond, from_left, from_middle, from_right
 from heldfloods.player import frames, play, regions_at
@@ -131,3 +135,47 @@ class Examples(Case):
             [2, True, [((1, 1), (2, 1), (3, 1))], False, True])
         self.refused(BadPixel(5, 0), great.colour_at, 5, 0)
         self.refused(NoFlood(1), great.regions, 1)
+
+    def test_claims(self):
+        corner, inside = ColourAt(0, 0, 1), Held(0, Box(1, from_right(1), 1, from_right(1)))
+        self.assertEqual([corner.holds(RING, 3, 3), corner.fault(RING, 2, 5), inside.holds(RING, 4, 3),
+                          inside.fault(RING, 2, 2)], [True, (0, 0), True, (0, 0)])
+        self.assertEqual(
+            [(corner & inside).holds(RING, 10 ** 30, 3), (~corner).fault(RING, 3, 3), ~~corner == corner,
+             len(list((corner | ~inside).singles()))],
+            [True, None, True, 2])
+        self.assertEqual(str(corner & ~NoneLeft(2)), 'both colour left 0 left 0 1 not none 2')
+        self.refused(NoFlood(1), Held(1, Box(0, 1, 0, 1)).holds, RING, 3, 3)
+
+    def test_classes(self):
+        self.assertEqual(
+            [str(one) for one in classes([from_left(), from_right(), from_left(2), from_right(2)])],
+            ['1', '2', '3', '4', '5..', '6..'])
+        self.assertEqual(
+            [str(class_of([from_left(), from_middle(), from_right()], n)) for n in (1, 2, 3, 10 ** 30)],
+            ['1', '2..', '3..', '2..'])
+        self.assertEqual(len([pair for pair in pairs(Program(Fill(Box(0, from_middle(), 0, from_right()), 1)))]), 6)
+
+    def test_judge(self):
+        program = Program(Frame(Box(0, from_right(), 0, from_right()), 1), Flood(from_middle(), from_middle(), 2))
+        verdict = judge(program, NoneLeft(2))
+        self.assertEqual([bool(verdict), verdict.paper, verdict.pixel, safe_from(program, ColourAt(0, 0, 1))],
+                         [False, ('no', 1, 1), (0, 0), 3])
+        self.assertEqual(
+            [bool(judge(program, ~Covered(Box(0, 1, 0, 1), 0))),
+             [(str(w), str(h)) for w, h in failing(program, ColourAt(0, 0, 1))][:2]],
+            [True, [('1', '1'), ('1', '2')]])
+
+    def test_alike(self):
+        whole = Box(0, from_right(), 0, from_right())
+        white = Program(Fill(whole, 1))
+        copy = Copy(Box(0, 2, 0, from_right()), from_right(2), 0)
+        first = white + Fill(whole, 2) + Fill(Box(0, 2, 0, from_right()), 1) + copy
+        second = white + Fill(Box(2, from_right(2), 0, from_right()), 2)
+        self.assertEqual(
+            [bool(alike(first, second)), needless(first), len(trimmed(first)), bool(settled(second)),
+             bool(within(white, second))],
+            [True, (0,), 3, True, False])
+        third = first.without(3) + Copy(Box(0, 3, 0, from_right()), from_right(3), 0)
+        found = alike(third, second)
+        self.assertEqual([found.paper, found.pixel], [('no', 3, 1), (2, 0)])

@@ -20,6 +20,10 @@ INTERFACE = {
     "player": ["play", "frames", "regions_at"],
     "edges": ["edges"],
     "strips": ["Strips"],
+    "claims": ["Claim", "ColourAt", "NoneLeft", "Covered", "Mirrored", "Held", "Both", "Either", "Not"],
+    "classes": ["Sizes", "classes", "class_of", "pairs"],
+    "judge": ["Verdict", "Yes", "No", "judge", "failing", "safe_from", "need"],
+    "alike": ["alike", "parting", "within", "needless", "trimmed", "exchangeable", "commute", "settled"],
 }
 
 

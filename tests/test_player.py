@@ -11,15 +11,11 @@ from heldfloods.pictures import Picture
 from heldfloods.places import from_left, from_middle, from_right
 from heldfloods.player import frames, play, regions_at
 from heldfloods.programs import Program
-from tests.helpers import VALUES, Case, is_whole, no_sizes, others
+from tests.helpers import VALUES, Case, is_whole, no_programs, no_sizes, others
 from tests.naive import Maker, flood_regions, history, in_order, paint, rows
 
 WHOLE = Box.whole()
 RING = Program(Frame(WHOLE, 1), Flood(from_middle(), from_middle(), 2))
-
-
-def no_programs():
-    return others(lambda value: isinstance(value, Program))
 
 
 def some_programs(seed, many):

@@ -11,17 +11,13 @@ from heldfloods.pictures import Picture
 from heldfloods.places import from_left, from_middle, from_right
 from heldfloods.programs import Program
 from heldfloods.strips import Strips
-from tests.helpers import VALUES, Case, is_whole, no_colours, others
+from tests.helpers import VALUES, Case, is_whole, no_colours, no_great_sizes, others
 from tests.naive import Maker, at, colour_of, flood_regions, in_order, paint
 
 GREATEST = 10 ** 40
 WHOLE = Box.whole()
 RING = Program(Frame(WHOLE, 1), Flood(from_middle(), from_middle(), 2))
 MANY = Program(Again(9, Grow(1)), Again(9, Grow(1)))
-
-
-def no_great_sizes():
-    return others(lambda value: is_whole(value) and 1 <= value <= GREATEST) + [GREATEST + 1]
 
 
 def some_strips(seed, many):
