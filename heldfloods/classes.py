@@ -106,7 +106,5 @@ def class_begins(rows, rest):
 
 
 def changes(slope, begin):
-    """The least m at which slope * m + begin is not on the side of 0 on which it was, and the least one beyond 0."""
-    if slope < 0:
-        slope, begin = -slope, -begin
+    """The least m at which slope * m + begin has come to 0 from its side at first, and the least one beyond 0."""
     return -(begin // slope), -begin // slope + 1

@@ -33,7 +33,6 @@ def open_parts(axis, things):
         if isinstance(thing, Program):
             for parts in program_parts(axis, thing):
                 found[parts] = True
-    check_many(found)
     mirrors = False
     for thing in things:
         if not isinstance(thing, Program):

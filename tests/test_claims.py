@@ -133,8 +133,9 @@ class Signs(Case):
     def test_equality(self):
         apart = [*CLAIMS, ColourAt(2, from_right(1), 2), ColourAt(1, from_right(), 2), ColourAt(1, from_right(1), 3),
                  NoneLeft(1), Covered(WHOLE, 3), Covered(INSIDE, 4), Mirrored("across"), Held(1, INSIDE),
-                 Held(0, WHOLE), Both(NoneLeft(4), NONE), Either(NoneLeft(4), NONE), Not(NoneLeft(4)), Not(Not(NONE)),
-                 Not(Not(Not(NONE)))]
+                 Held(0, WHOLE), Not(NoneLeft(4)), Not(Not(NONE)), Not(Not(Not(NONE)))]
+        for one, other in ((NoneLeft(4), NONE), (NONE, NONE), (NoneLeft(4), NoneLeft(4))):
+            apart.extend([Both(one, other), Either(one, other)])
         for at, one in enumerate(apart):
             for beside, other in enumerate(apart):
                 self.same(one == other, at == beside)

@@ -226,6 +226,24 @@ class Regions(Case):
                         self.look_at_way(picture, start, goal, steps[goal])
                         self.look_at_way(picture, goal, start, steps[goal])
 
+    def test_ways_among_bars(self):
+        source = random.Random(12)
+        for _ in range(60):
+            rows = [["0"] * 16 for _ in range(14)]
+            for _ in range(source.randint(3, 9)):
+                x, y, long = source.randrange(16), source.randrange(14), source.randint(2, 11)
+                for k in range(long):
+                    at = (x + k, y) if long % 2 else (x, y + k)
+                    if at[0] < 16 and at[1] < 14:
+                        rows[at[1]][at[0]] = "1"
+            picture = Picture(["".join(row) for row in rows])
+            pixels = pixels_of(picture)
+            for start in source.sample(sorted(pixels), 6):
+                steps = distances(pixels, start)
+                for goal in source.sample(sorted(steps), min(25, len(steps))):
+                    self.look_at_way(picture, start, goal, steps[goal])
+                    self.look_at_way(turned(picture), start[::-1], goal[::-1], steps[goal])
+
     def test_ways_round_about(self):
         # Each way first has to lead away from its goal.
         cup = Picture(["0" * 60, "0" + "1" * 58 + "0", *["01" + "0" * 56 + "10"] * 50, "0" * 60])
