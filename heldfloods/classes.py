@@ -45,8 +45,8 @@ def class_of(places, size):
     check_size(size, "size")
     half, rest = size // 2, size % 2
     begins = class_begins([parts_of(place) for place in places], rest)
-    begin = max([int(begin) for begin in begins if begin <= half])
-    behind = min([int(begin) for begin in begins if begin > half], default=0)
+    begin = max([int(one) for one in begins if one <= half])
+    behind = min([int(one) for one in begins if one > half], default=0)
     return class_from(begin, behind, rest)
 
 
@@ -70,7 +70,7 @@ def ordered_pairs(widths, heights):
     for wide in widths:
         for high in heights:
             by_sum.setdefault(wide.low + high.low, []).append((wide, high))
-    return [pair for low in sorted([int(low) for low in by_sum]) for pair in by_sum[low]]
+    return [pair for low in sorted([int(key) for key in by_sum]) for pair in by_sum[low]]
 
 
 def sizes_of(rows):
@@ -81,7 +81,7 @@ def sizes_of(rows):
         for begin, behind in zip(begins, [*begins[1:], 0]):
             sizes = class_from(begin, behind, rest)
             found[sizes.low] = sizes
-    return [found[low] for low in sorted([int(low) for low in found])]
+    return [found[low] for low in sorted([int(key) for key in found])]
 
 
 def class_from(begin, behind, rest):
@@ -102,7 +102,7 @@ def class_begins(rows, rest):
                 for change in changes(slope - other_slope, begin - other_begin):
                     if change > least:
                         begins[change] = True
-    return sorted([int(begin) for begin in begins])
+    return sorted([int(one) for one in begins])
 
 
 def changes(slope, begin):

@@ -21,12 +21,12 @@ def edges(axis, *things):
 
 def edge_parts(axis, things):
     """The list of the edges of programs and claims, in any order."""
-    found = open_parts(axis, things)
+    found = loose_parts(axis, things)
     check_many(found)
     return found
 
 
-def open_parts(axis, things):
+def loose_parts(axis, things):
     """The same, but the claims may make them more than 60."""
     found = {}
     for thing in things:

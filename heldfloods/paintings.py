@@ -1,7 +1,7 @@
 """What a program paints on a canvas of any size."""
 
 from heldfloods.deeds import Flood
-from heldfloods.edges import open_parts, values_at
+from heldfloods.edges import loose_parts, values_at
 from heldfloods.sheets import Ruler, Sheet
 from heldfloods.steps import Steps
 
@@ -31,4 +31,4 @@ class Painting:
 
 def ruler(axis, size, things):
     """The ruler of the edges of programs and claims at a size."""
-    return Ruler(size, values_at(open_parts(axis, things), size))
+    return Ruler(size, values_at(loose_parts(axis, things), size))
