@@ -93,12 +93,17 @@ class Strips:
         return Picture(stretched(self, list(range(self.width)), list(range(self.height))))
 
     def __eq__(self, other):
-        if not isinstance(other, Strips) or (self.width, self.height) != (other.width, other.height):
-            return False
-        # Between the edges of both, both have one colour.
-        columns = merged(self.columns, other.columns)
-        rows = merged(self.rows, other.rows)
-        return stretched(self, columns, rows) == stretched(other, columns, rows)
+        return isinstance(other, Strips) and same_pictures(self, other)
+
+
+def same_pictures(one, other):
+    """Whether two Strips have one size, and each pixel the same colour."""
+    if (one.width, one.height) != (other.width, other.height):
+        return False
+    # Between the edges of both, both have one colour.
+    columns = merged(one.columns, other.columns)
+    rows = merged(one.rows, other.rows)
+    return stretched(one, columns, rows) == stretched(other, columns, rows)
 
 
 def steps_of(ends):
