@@ -110,8 +110,10 @@ def marked_region(rows, x, y):
         x, y = seeds.pop()
         row = new[y]
         if row[x] == sign:
-            begin, end = run_begin(row, x), run_end(row, x)
-            new[y] = painted(row, begin, end, MARK)
+            begin = len(row[:x].rstrip(sign))
+            behind = row[x:].lstrip(sign)
+            end = len(row) - len(behind)
+            new[y] = row[:begin] + MARK * (end - begin) + behind
             if y > 0:
                 add_seeds(seeds, new[y - 1], y - 1, begin, end, sign)
             if y + 1 < len(new):
@@ -124,16 +126,12 @@ def add_seeds(seeds, row, y, begin, end, sign):
     at = row.find(sign, begin, end)
     while at >= 0:
         seeds.append((at, y))
-        at = row.find(sign, run_end(row, at), end)
-
-
-def run_begin(row, x):
-    """Where the signs of a row that are equal, without a gap, to that at an index begin."""
-    return len(row[:x].rstrip(row[x]))
+        behind = row[at:end].lstrip(sign)
+        at = row.find(sign, end - len(behind), end)
 
 
 def run_end(row, x):
-    """The index behind these signs."""
+    """The index behind the signs of a row that are equal, without a gap, to that at an index."""
     return len(row) - len(row[x:].lstrip(row[x]))
 
 
