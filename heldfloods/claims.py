@@ -1,11 +1,9 @@
 """Claims: what may hold or fail for a program on a canvas."""
 
 from heldfloods.boxes import box_ends
-from heldfloods.checks import check_canvas
 from heldfloods.claimparts import check_part, claim_axis, claim_box, claim_colour, claim_index, claim_place
-from heldfloods.errors import NoFlood, TooMany
-from heldfloods.faults import colour_fault, cover_fault, held_fault, left_fault, mirror_fault
-from heldfloods.paintings import Painting, ruler
+from heldfloods.errors import TooMany
+from heldfloods.outcomes import outcome_on
 
 
 class Claim:
@@ -13,13 +11,22 @@ class Claim:
 
     MOST = 8
 
-    def first_fault(self, painting):
-        """The fault of a claim that has one if it fails; None if it holds."""
+    def wrong_cells(self, board, at):
+        """The set of the cells at which a claim that is not joined of others fails; its marks have the number at."""
+        return 0
 
-    def outcome(self, painting):
-        """Whether the claim holds for a painting, and its fault if it fails."""
-        fault = self.first_fault(painting)
-        return fault is None, fault
+    def outcome(self, board, at):
+        """Whether the claim holds for a board, and a set of cells: its fault, if it has one, is the first pixel of it.
+
+        The marks of the claims in it have the numbers from at on.
+        """
+        wrong = self.wrong_cells(board, at)
+        return wrong == 0, wrong
+
+    def marks(self, ruler):
+        """What the claim needs of an axis at a size."""
+        places = self.places_on(ruler.axis)
+        return ruler.span(*places) if places else 0
 
     def places_on(self, axis):
         """The list of the places that the claim adds to the edges of an axis."""
@@ -28,6 +35,10 @@ class Claim:
     def mirrors(self, axis):
         """Whether the claim adds the mirrors of all edges of an axis."""
         return False
+
+    def least_floods(self):
+        """How many floods a program must have to be asked by the claim itself."""
+        return 0
 
     def holds(self, program, width, height):
         """Whether the claim holds for a program on a canvas."""
@@ -65,9 +76,8 @@ class ColourAt(Claim):
         self.y = claim_place(y, "y")
         self.colour = claim_colour(colour)
 
-    def first_fault(self, painting):
-        sheet = painting.sheet
-        return colour_fault(sheet, self.x(sheet.width), self.y(sheet.height), self.colour)
+    def wrong_cells(self, board, at):
+        return board.patch(at) & ~board.having(self.colour)
 
     def places_on(self, axis):
         place = self.x if axis == "across" else self.y
@@ -105,8 +115,8 @@ class NoneLeft(Claim):
     def __init__(self, colour):
         self.colour = claim_colour(colour)
 
-    def first_fault(self, painting):
-        return left_fault(painting.sheet, self.colour)
+    def wrong_cells(self, board, at):
+        return board.having(self.colour)
 
     def holds(self, program, width, height):
         return outcome_on(self, program, width, height)[0]
@@ -140,9 +150,8 @@ class Covered(Claim):
         self.box = claim_box(box)
         self.colour = claim_colour(colour)
 
-    def first_fault(self, painting):
-        sheet = painting.sheet
-        return cover_fault(sheet, self.box(sheet.width, sheet.height), self.colour)
+    def wrong_cells(self, board, at):
+        return board.patch(at) & ~board.having(self.colour)
 
     def places_on(self, axis):
         return list(box_ends(self.box, axis))
@@ -178,8 +187,11 @@ class Mirrored(Claim):
     def __init__(self, axis):
         self.axis = claim_axis(axis)
 
-    def first_fault(self, painting):
-        return mirror_fault(painting.sheet, self.axis)
+    def wrong_cells(self, board, at):
+        return board.marked(board.colours ^ board.turned_colours(self.axis, at))
+
+    def marks(self, ruler):
+        return ruler.turned() if self.mirrors(ruler.axis) else ()
 
     def mirrors(self, axis):
         return axis == self.axis
@@ -216,12 +228,14 @@ class Held(Claim):
         self.index = claim_index(index)
         self.box = claim_box(box)
 
-    def first_fault(self, painting):
-        sheet = painting.sheet
-        return held_fault(sheet, painting.marks[self.index], self.box(sheet.width, sheet.height))
+    def wrong_cells(self, board, at):
+        return board.escaped(self.index, at)
 
     def places_on(self, axis):
         return list(box_ends(self.box, axis))
+
+    def least_floods(self):
+        return self.index + 1
 
     def holds(self, program, width, height):
         return outcome_on(self, program, width, height)[0]
@@ -252,13 +266,13 @@ class Both(Claim):
     """Two claims hold."""
 
     def __init__(self, one, other):
-        check_two(one, other)
+        self.ahead = checked_many(one, other)
         self.one = one
         self.other = other
 
-    def outcome(self, painting):
-        held, fault = self.one.outcome(painting)
-        return self.other.outcome(painting) if held else (held, fault)
+    def outcome(self, board, at):
+        held, wrong = self.one.outcome(board, at)
+        return self.other.outcome(board, at + self.ahead) if held else (held, wrong)
 
     def holds(self, program, width, height):
         return outcome_on(self, program, width, height)[0]
@@ -289,13 +303,13 @@ class Either(Claim):
     """One of two claims holds, or both hold."""
 
     def __init__(self, one, other):
-        check_two(one, other)
+        self.ahead = checked_many(one, other)
         self.one = one
         self.other = other
 
-    def outcome(self, painting):
-        held, fault = self.one.outcome(painting)
-        return (True, None) if held or self.other.outcome(painting)[0] else (False, fault)
+    def outcome(self, board, at):
+        held, wrong = self.one.outcome(board, at)
+        return (True, 0) if held or self.other.outcome(board, at + self.ahead)[0] else (False, wrong)
 
     def holds(self, program, width, height):
         return outcome_on(self, program, width, height)[0]
@@ -332,8 +346,8 @@ class Not(Claim):
         self.core = claim.core if isinstance(claim, Not) else claim
         self.nots = claim.nots + 1 if isinstance(claim, Not) else 1
 
-    def outcome(self, painting):
-        return self.core.outcome(painting)[0] == (self.nots % 2 == 0), None
+    def outcome(self, board, at):
+        return self.core.outcome(board, at)[0] == (self.nots % 2 == 0), 0
 
     def holds(self, program, width, height):
         return outcome_on(self, program, width, height)[0]
@@ -360,12 +374,17 @@ class Not(Claim):
         return f"{'not ' * self.nots}{self.core}"
 
 
-def check_two(one, other):
-    """Raises BadClaim for what is no claim, and TooMany for two that are too many together."""
+def checked_many(one, other):
+    """How many claims that are not joined are in the first of two claims.
+
+    Raises BadClaim for what is no claim, and TooMany for two with too many of them together.
+    """
     check_part(isinstance(one, Claim), "one")
     check_part(isinstance(other, Claim), "other")
-    if len(single_claims(one)) + len(single_claims(other)) > Claim.MOST:
+    many = len(single_claims(one))
+    if many + len(single_claims(other)) > Claim.MOST:
         raise TooMany("claims", Claim.MOST)
+    return many
 
 
 def single_claims(claim):
@@ -375,19 +394,3 @@ def single_claims(claim):
     if isinstance(claim, (Both, Either)):
         return single_claims(claim.one) + single_claims(claim.other)
     return [claim]
-
-
-def check_floods(claim, program):
-    """Raises NoFlood for the first Held in a claim whose number is that of no flood of the program."""
-    for single in single_claims(claim):
-        if isinstance(single, Held) and single.index >= program.floods:
-            raise NoFlood(single.index)
-
-
-def outcome_on(claim, program, width, height):
-    """Whether a claim holds for a program on a canvas, and its fault if it fails."""
-    check_canvas(width, height)
-    check_floods(claim, program)
-    across = ruler("across", width, (program, claim))
-    down = ruler("down", height, (program, claim))
-    return claim.outcome(Painting(program, across, down))

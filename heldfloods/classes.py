@@ -20,9 +20,12 @@ class Sizes:
         self.high = high
 
     def __contains__(self, x):
-        if not is_int(x) or x < self.low or (x - self.low) % 2 != 0:
+        # This is asked for many sizes and classes: nothing is called for it, and most sizes lie beyond an end.
+        if type(x) is not int or x < self.low:
             return False
-        return self.high is None or x <= self.high
+        if self.high is not None and x > self.high:
+            return False
+        return (x - self.low) % 2 == 0
 
     def __eq__(self, other):
         return isinstance(other, Sizes) and self.low == other.low and self.high == other.high

@@ -41,6 +41,12 @@ class Coloured(Deed):
 class Blocked(Deed):
     """A deed with a block of deeds."""
 
+    def each(self):
+        """Yields the deed, and then what its deeds yield."""
+        yield self
+        for deed in self.deeds:
+            yield from deed.each()
+
 
 class Fill(Boxed, Coloured):
     """Gives a box a colour."""

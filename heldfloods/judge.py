@@ -1,8 +1,10 @@
 """Verdicts: whether a claim holds for a program on all canvases, and the least one on which it fails."""
 
 from heldfloods.atlases import Atlas
-from heldfloods.claims import Claim, check_floods
+from heldfloods.charts import Survey
+from heldfloods.claims import Claim
 from heldfloods.errors import BadClaim, Fails, Gap
+from heldfloods.outcomes import check_floods
 from heldfloods.programs import check_program
 
 
@@ -73,18 +75,20 @@ def told(sizes):
 def judge(program, claim):
     """The verdict whether a claim holds for a program on all canvases."""
     atlas = claim_atlas(program, claim)
-    for page in atlas.pages:
-        held, fault = claim.outcome(atlas.painting(program, page))
+    survey = claim_survey(atlas.chart, claim)
+    for wide, high in atlas.pages:
+        held, wrong = survey.seen(wide.low, high.low)
         if not held:
-            return No(page[0].low, page[1].low, fault)
+            return No(wide.low, high.low, atlas.chart.first_pixel(wide.low, high.low, wrong))
     return Yes(atlas.widths, atlas.heights)
 
 
 def failing(program, claim):
     """Yields the pairs on which a claim fails, in their order."""
     atlas = claim_atlas(program, claim)
+    survey = claim_survey(atlas.chart, claim)
     for page in atlas.pages:
-        if not claim.outcome(atlas.painting(program, page))[0]:
+        if not survey.seen(page[0].low, page[1].low)[0]:
             yield page
 
 
@@ -127,3 +131,8 @@ def claim_atlas(program, claim):
     atlas = Atlas((program, claim))
     check_floods(claim, program)
     return atlas
+
+
+def claim_survey(chart, claim):
+    """Tells of the canvases of a chart of a program and a claim what the claim tells of their boards."""
+    return Survey(chart, lambda width, height: claim.outcome(chart.board(width, height, 0), chart.behind))

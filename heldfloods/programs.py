@@ -17,7 +17,7 @@ class Program:
         for at, deed in enumerate(deeds):
             if not isinstance(deed, Deed):
                 raise BadProgram(at)
-        self._deeds = deeds
+        self.deeds = deeds
         self._said = len(said_deeds(deeds))
         self._done = most_done(deeds)
         self._deep = depth(deeds)
@@ -35,15 +35,6 @@ class Program:
         if not isinstance(deeds, (list, tuple)):
             raise BadProgram(0)
         return cls(*deeds)
-
-    @property
-    def deeds(self):
-        """The tuple of the deeds outside of blocks."""
-        return self._deeds
-
-    @deeds.setter
-    def deeds(self, value):
-        raise AttributeError("a program never changes")
 
     @property
     def said(self):
@@ -67,37 +58,37 @@ class Program:
 
     def each(self):
         """Yields the deeds, those of a block behind it."""
-        for deed in self._deeds:
+        for deed in self.deeds:
             yield from deed.each()
 
     def __len__(self):
-        return len(self._deeds)
+        return len(self.deeds)
 
     def __getitem__(self, at):
-        many = len(self._deeds)
+        many = len(self.deeds)
         if not is_int_in(at, -many, many):
             raise NoDeed(at)
-        return self._deeds[at]
+        return self.deeds[at]
 
     def __iter__(self):
         # Without this Python would ask for items until one is missing, and meet NoDeed.
         raise TypeError("a program is not iterated over: take its deeds")
 
     def __contains__(self, x):
-        return x in self._deeds
+        return x in self.deeds
 
     def __add__(self, other):
         if isinstance(other, Program):
-            deeds = self._deeds + other.deeds
+            deeds = self.deeds + other.deeds
             return Program(*deeds)
         if isinstance(other, Deed):
-            return Program(*self._deeds, other)
+            return Program(*self.deeds, other)
         return NotImplemented
 
     def __radd__(self, other):
         if not isinstance(other, Deed):
             return NotImplemented
-        return Program(other, *self._deeds)
+        return Program(other, *self.deeds)
 
     def __iadd__(self, other):
         return self + other
@@ -107,7 +98,7 @@ class Program:
             raise BadDeed("times")
         # Any deed so often is too many; more of them might not fit into the memory.
         times = other if other <= Program.SAID else Program.SAID + 1
-        deeds = self._deeds * times
+        deeds = self.deeds * times
         return Program(*deeds)
 
     def __rmul__(self, other):
@@ -117,36 +108,36 @@ class Program:
         return self * other
 
     def __invert__(self):
-        deeds = [~deed for deed in self._deeds]
+        deeds = [~deed for deed in self.deeds]
         return Program(*deeds)
 
     def without(self, k):
         """The program without the deed k."""
-        if not is_int_in(k, 0, len(self._deeds)):
+        if not is_int_in(k, 0, len(self.deeds)):
             raise NoDeed(k)
-        deeds = self._deeds[:k] + self._deeds[k + 1:]
+        deeds = self.deeds[:k] + self.deeds[k + 1:]
         return Program(*deeds)
 
     def exchanged(self, k):
         """The program with the deeds k and k + 1 in the place of each other."""
-        if not is_int_in(k, 0, len(self._deeds) - 1):
+        if not is_int_in(k, 0, len(self.deeds) - 1):
             raise NoDeed(k)
-        deeds = list(self._deeds)
+        deeds = list(self.deeds)
         deeds[k], deeds[k + 1] = deeds[k + 1], deeds[k]
         return Program(*deeds)
 
     def __call__(self, width, height):
         canvas = Canvas(width, height)
-        do_all(self._deeds, canvas)
+        do_all(self.deeds, canvas)
         return canvas.picture()
 
     def __eq__(self, other):
-        return isinstance(other, Program) and self._deeds == other.deeds
+        return isinstance(other, Program) and self.deeds == other.deeds
 
     def __str__(self):
-        if not self._deeds:
+        if not self.deeds:
             return "none"
-        return "\n".join([str(deed) for deed in self._deeds])
+        return "\n".join([str(deed) for deed in self.deeds])
 
 
 def said_deeds(deeds):

@@ -1,12 +1,13 @@
 """Strips: the picture of a program on a canvas of any size."""
 
+from heldfloods.charts import Chart
 from heldfloods.checks import check_canvas, check_colour, check_side, is_colour, is_int_in
+from heldfloods.edges import edge_parts
 from heldfloods.errors import BadPixel
-from heldfloods.grids import MARK, check_pixel
-from heldfloods.paintings import Painting, ruler
+from heldfloods.grids import check_pixel
 from heldfloods.pictures import Picture
 from heldfloods.programs import check_flood
-from heldfloods.sheets import cell_at, picked
+from heldfloods.rulers import cell_at
 
 
 class Strips:
@@ -14,14 +15,14 @@ class Strips:
 
     def __init__(self, program, width, height):
         check_canvas(width, height)
-        across = ruler("across", width, (program,))
-        down = ruler("down", height, (program,))
-        painting = Painting(program, across, down)
+        things = (program,)
+        across, down = edge_parts("across", things), edge_parts("down", things)
+        board = Chart(things, across, down, [width], [height]).board(width, height, 0)
         self._program = program
-        self._columns = tuple(across.ends)
-        self._rows = tuple(down.ends)
-        self.grid = tuple(painting.sheet.grid)
-        self._marks = painting.marks
+        self._board = board
+        self._columns = tuple(board.across.ends)
+        self._rows = tuple(board.down.ends)
+        self.grid = tuple(board.lines(board.colours))
 
     @property
     def width(self):
@@ -78,7 +79,7 @@ class Strips:
     def regions(self, index):
         """For each time that the flood with this number has a region the ascending tuple of its cells."""
         check_flood(self._program, index)
-        return [marked_cells(marked) for marked in self._marks[index]]
+        return [marked_cells(self._board.lines(region)) for region in self._board.found[index]]
 
     def cells(self):
         """Yields the tuples (i, j, colour) of the cells, by j and then by i."""
@@ -112,8 +113,8 @@ def steps_of(ends):
 
 
 def marked_cells(marked):
-    """The ascending tuple of the cells (i, j) that are marked in a grid."""
-    return tuple([(i, j) for i in range(len(marked[0])) for j in range(len(marked)) if marked[j][i] == MARK])
+    """The ascending tuple of the cells (i, j) that are not 0 in a grid."""
+    return tuple([(i, j) for i in range(len(marked[0])) for j in range(len(marked)) if marked[j][i] != "0"])
 
 
 def merged(one, other):
@@ -124,5 +125,5 @@ def merged(one, other):
 def stretched(strips, columns, rows):
     """The grid of the colours at all x of some columns and all y of some rows."""
     numbers = [cell_at(strips.columns, x) for x in columns]
-    lines = [picked(row, numbers) for row in strips.grid]
+    lines = ["".join([row[number] for number in numbers]) for row in strips.grid]
     return [lines[cell_at(strips.rows, y)] for y in rows]

@@ -61,6 +61,17 @@ class Classes(Case):
     def test_methods_stand_in_each_class(self):
         for kind in CLASSES + (Deed,):
             self.assertEqual([name for name in METHODS if name not in vars(kind)], [], kind)
+        self.assertIn("each", vars(Blocked))
+
+    def test_each_of_a_block(self):
+        class Plain(Blocked):
+            def __init__(self, *deeds):
+                self.deeds = deeds
+
+        inner = Again(2, Grow(3))
+        block = Plain(Grow(1), inner)
+        self.assertEqual([id(deed) for deed in block.each()],
+                         [id(deed) for deed in (block, block.deeds[0], inner, inner.deeds[0])])
 
     def test_places_box_and_colour(self):
         for deed in (Fill(WHOLE, 3), Frame(box=WHOLE, colour=3, thick=1), Fill(colour=3, box=WHOLE)):

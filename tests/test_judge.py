@@ -244,3 +244,24 @@ class Quick(Case):
         self.assertTrue(judge(program, NoneLeft(9)))
         self.assertEqual(list(failing(program, ~NoneLeft(3))), [])
         self.assertLess(time.process_time() - begun, 20)
+
+    def test_some_five_hundred_pairs(self):
+        begun = time.process_time()
+        for a, k, many, wrong in ((10 ** 11 + 8, 10 ** 11 + 11, 527, 487), (6, 9, 442, 402)):
+            box = Box(a, from_right(a), a, from_right(a))
+            program = Program(Frame(box, 1), Fill(Box(k, k + 3, a, a + 1), 0),
+                              Flood(from_middle(), from_middle(), 2))
+            claim = Held(0, box)
+            every, found = list(pairs(program, claim)), list(failing(program, claim))
+            self.assertEqual((len(every), len(found)), (many, wrong))
+            self.assertEqual([pair for pair in every if pair in found], found)
+            self.assertIsNone(safe_from(program, claim))
+            inner = 2 * a + 1, 2 * a + 2
+            sizes = [*range(1, 15), a - 1, a, a + 1, 2 * a - 1, 2 * a, *inner, 2 * a + 3, 2 * a + 4, 3 * a, 10 ** 30]
+            for width in sizes:
+                for height in sizes:
+                    fails = [pair for pair in found if width in pair[0] and height in pair[1]]
+                    self.assertEqual(len(fails), 0 if claim.holds(program, width, height) else 1, (width, height))
+                    if width in inner and height in inner:
+                        self.assertEqual(fails, [])
+        self.assertLess(time.process_time() - begun, 10)

@@ -69,6 +69,47 @@ class Layout(unittest.TestCase):
                         bare.setdefault(name, []).append(node.name)
         self.assertEqual({name: bare[name] for name in bare if name in assigned}, {})
 
+    def test_nothing_that_an_operator_makes_runs_a_setter(self):
+        trees = [ast.parse(path.read_text(encoding="utf-8")) for path in FILES]
+        called, names, first = by_name(trees), set(), []
+        for tree in trees:
+            for node in ast.walk(tree):
+                if isinstance(node, ast.ClassDef):
+                    names |= setters(node)
+                    first += [inner for inner in node.body if isinstance(inner, ast.FunctionDef)
+                              and (is_pure(inner.name) or inner.name in properties(node) - setters(node))]
+        self.assertIn("width", names)
+        seen, rest = [], list(first)
+        while rest:
+            node = rest.pop()
+            if node not in seen:
+                seen.append(node)
+                self.assertEqual([inner.attr for inner in ast.walk(node) if isinstance(inner, ast.Attribute)
+                                  and isinstance(inner.ctx, ast.Store) and inner.attr in names], [], node.name)
+                for inner in ast.walk(node):
+                    if isinstance(inner, ast.Call):
+                        rest += called.get(getattr(inner.func, "id", getattr(inner.func, "attr", None)), [])
+        self.assertGreater(len(seen), len(first))
+
+
+def is_pure(name):
+    """Whether a method with this name must change nothing."""
+    in_place = name in ("__iadd__", "__imul__", "__ior__", "__iand__", "__ixor__", "__setitem__")
+    return name.startswith("__") and not in_place and name not in ("__init__", "__call__", "__enter__", "__exit__")
+
+
+def by_name(trees):
+    """What may be called by each name: functions, methods, and the constructors of classes."""
+    found = {}
+    for tree in trees:
+        for node in ast.walk(tree):
+            if isinstance(node, ast.FunctionDef) and node.name != "__init__":
+                found.setdefault(node.name, []).append(node)
+            if isinstance(node, ast.ClassDef):
+                found.setdefault(node.name, []).extend(
+                    [inner for inner in node.body if isinstance(inner, ast.FunctionDef) and inner.name == "__init__"])
+    return found
+
 
 def properties(tree):
     """The names of the properties of a class."""
