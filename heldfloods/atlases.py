@@ -9,8 +9,8 @@ class Atlas:
     """The pairs of the edges of some programs and claims, in their order, and the chart of their least canvases."""
 
     def __init__(self, things):
-        across, down = edge_parts("across", things), edge_parts("down", things)
-        self.widths, self.heights = class_lists(across, down)
+        self.across, self.down = edge_parts("across", things), edge_parts("down", things)
+        self.widths, self.heights = class_lists(self.across, self.down)
         self.pages = ordered_pairs(self.widths, self.heights)
         widths, heights = [sizes.low for sizes in self.widths], [sizes.low for sizes in self.heights]
-        self.chart = Chart(things, across, down, widths, heights)
+        self.chart = Chart(things, self.across, self.down, widths, heights)

@@ -87,6 +87,15 @@ class Board:
         brought = gathered(gathered(self.colours, across, self.down.every), down, columns)
         self.colours = self.colours & ~(FULL * columns * rows) | brought
 
+    def bounds(self, cells):
+        """The numbers of the first column of a set of cells, of the one behind it, and likewise of its rows."""
+        step = self.down.step
+        top, foot = lowest(cells) // step, (cells.bit_length() - 1) // step
+        columns = 0
+        for y in range(top, foot + 1):
+            columns = columns | cells >> y * step & self.across.every
+        return lowest(columns) // BITS, (columns.bit_length() - 1) // BITS + 1, top, foot + 1
+
     def lines(self, signs):
         """The list of the rows of an integer like that of the colours: strings with one figure for each cell."""
         wide, high = len(self.across.ends) - 1, len(self.down.ends) - 1
@@ -102,3 +111,8 @@ def gathered(signs, pairs, beside):
         brought = signs >> back if back >= 0 else signs << -back
         found = found | brought & bits * beside
     return found
+
+
+def lowest(cells):
+    """How many bits are ahead of the first cell of a set that is not empty."""
+    return (cells & -cells).bit_length() - 1

@@ -1,6 +1,6 @@
 """Charts: what some programs paint on canvases of some sizes."""
 
-from heldfloods.boards import Board
+from heldfloods.boards import Board, lowest
 from heldfloods.moves import Script, act_all
 from heldfloods.programs import Program
 from heldfloods.rulers import BITS, Ruler, ends_at
@@ -61,9 +61,13 @@ class Chart:
         """The first pixel of a set of cells of a canvas; None if the set is empty."""
         if not cells:
             return None
-        across, down = self._across[width], self._down[height]
-        ahead = (cells & -cells).bit_length() - 1
-        return across.ends[ahead % down.step // BITS], down.ends[ahead // down.step]
+        columns, rows = self.ends_on(width, height)
+        y, ahead = divmod(lowest(cells), self._down[height].step)
+        return columns[ahead // BITS], rows[y]
+
+    def ends_on(self, width, height):
+        """The ends of the cells of a canvas: the ascending lists of those of its columns and of its rows."""
+        return self._across[width].ends, self._down[height].ends
 
 
 class Survey:

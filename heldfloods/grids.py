@@ -158,10 +158,55 @@ def shortest_way(rows, start, goal):
     if marked_region(rows, start[0], start[1])[goal[1]][goal[0]] != MARK:
         return None
     wide = len(rows[0]) + 1
-    # With a mark behind each row, and a row of marks at both ends, no step leaves the grid.
-    board = list(MARK * wide + "".join([row + MARK for row in rows]) + MARK * wide)
+    board = board_of(rows)
     first, last = (start[1] + 1) * wide + start[0], (goal[1] + 1) * wide + goal[0]
     search(board, wide, first, last)
+    return traced(board, wide, first, last)
+
+
+def way_out(rows, start, sign):
+    """A tuple of pixels from the pixel start to one with a sign, as few as any; those ahead are like the first one.
+
+    There is such a way.
+    """
+    wide = len(rows[0]) + 1
+    board = board_of(rows)
+    first = (start[1] + 1) * wide + start[0]
+    last, old = None, board[first]
+    if old == sign:
+        return (start,)
+    board[first] = first
+    front = [first]
+    while last is None:
+        front, last = step_out(board, wide, front, old, sign)
+    return traced(board, wide, first, last)
+
+
+def step_out(board, wide, front, old, sign):
+    """The list of the board beside a front that has an old sign, and the first cell met there with another sign."""
+    reached = []
+    for at in front:
+        for beside in (at - 1, at + 1, at - wide, at + wide):
+            if board[beside] == old:
+                board[beside] = at
+                reached.append(beside)
+            elif board[beside] == sign:
+                board[beside] = at
+                return reached, beside
+    return reached, None
+
+
+def board_of(rows):
+    """The list of all signs of a grid; no step from one of them leaves it.
+
+    For there is MARK behind each row, and a row of MARK at both ends.
+    """
+    outside = MARK * (len(rows[0]) + 1)
+    return list(outside + "".join([row + MARK for row in rows]) + outside)
+
+
+def traced(board, wide, first, last):
+    """The tuple of the pixels from the first one to the last one, each of which has the index of the one ahead."""
     way = [last]
     while way[-1] != first:
         way.append(board[way[-1]])

@@ -2,16 +2,20 @@
 
 import unittest
 
+from heldfloods.areas import Sum
 from heldfloods.boxes import Box
 from heldfloods.canvases import Canvas
 from heldfloods.claims import Claim, Mirrored, NoneLeft
 from heldfloods.classes import Sizes
 from heldfloods.deeds import Deed, Fill, Grow
 from heldfloods.errors import BadPlace
+from heldfloods.floods import Leak
+from heldfloods.judge import No
 from heldfloods.pictures import Picture
 from heldfloods.places import Place
 from heldfloods.programs import Program
 from heldfloods.strips import Strips
+from heldfloods.walls import Walls
 
 BIG = 10 ** 12
 HUGE = 10 ** 60 - 1
@@ -23,7 +27,8 @@ DICTS = [{}, {"x": 1}, {0: 0}, {"a": [1, {"b": ()}]}]
 OBJECTS = [
     Place(0, 0), Place(1, 2, 3), Place(BIG + 1, 0), Picture(["01", "23"]), Canvas(2, 3), Box(0, 1, 0, 1),
     Fill(Box(0, 1, 0, 1), 2), Grow(1), Deed(), Program(), Program(Grow(3)), BadPlace("x"),
-    NoneLeft(2), ~Mirrored("down"), Sizes(3), Strips(Program(), 2, 3),
+    NoneLeft(2), ~Mirrored("down"), Sizes(3), Strips(Program(), 2, 3), No(77, 5, (0, 1)), Leak(1, 1, ((0, 0),)),
+    Walls(None, ()), Sum(1, 0, 0, 2),
 ]
 CONSTANTS = [None, True, False]
 VALUES = CONSTANTS + INTEGERS + TEXTS + LISTS + TUPLES + DICTS + OBJECTS

@@ -1,19 +1,23 @@
 """The examples of the document, for the modules that are built, word by word."""
 
 from heldfloods.alike import alike, needless, settled, trimmed, within
+from heldfloods.areas import Sum, area_sum
 from heldfloods.boxes import Box
 from heldfloods.canvases import Canvas
 from heldfloods.claims import ColourAt, Covered, Held, NoneLeft
-from heldfloods.classes import class_of, classes, pairs
+from heldfloods.classes import Sizes, class_of, classes, pairs
 from heldfloods.deeds import Again, Boxed, Coloured, Copy, Fill, Flip, Flood, Frame, Grow, Pointed, When
 from heldfloods.edges import edges
-from heldfloods.errors import BadPicture, BadPixel, BadPlace, BadText, NoDeed, NoFlood, TooMany, Unlike
+from heldfloods.errors import (BadPicture, BadPixel, BadPlace, BadText, Fails, Gap, NoClass, NoDeed, NoFlood, TooMany,
+                               Unlike)
+from heldfloods.floods import leak, need_held, reach
 from heldfloods.judge import failing, judge, safe_from
 from heldfloods.pictures import Picture
 from heldfloods.places import Place, first_beyond, from_left, from_middle, from_right
 from heldfloods.player import frames, play, regions_at
 from heldfloods.programs import Program
 from heldfloods.strips import Strips
+from heldfloods.walls import fewest
 from tests.helpers import Case
 
 
@@ -179,3 +183,36 @@ class Examples(Case):
         third = first.without(3) + Copy(Box(0, 3, 0, from_right()), from_right(3), 0)
         found = alike(third, second)
         self.assertEqual([found.paper, found.pixel], [('no', 3, 1), (2, 0)])
+
+    def test_floods(self):
+        shut = Program(Fill(Box(3, 4, 0, from_right()), 1), Fill(Box(3, 4, 1, 2), 0), Flood(0, 0, 2))
+        found = leak(shut, 0, Box(0, 3, 0, from_right()))
+        self.assertEqual(
+            [found.width, found.height, found.gap, len(found), leak(shut, 0, Box(0, from_right(), 0, from_right()))],
+            [4, 2, (3, 1), 5, None])
+        self.assertEqual([reach(shut, 0, 9, 1), reach(shut, 0, 4, 2), reach(shut, 0, 10 ** 30, 2)],
+                         [(0, 3, 0, 1), (0, 4, 0, 2), (0, 10 ** 30, 0, 2)])
+        with self.assertRaises(Fails) as caught:
+            need_held(shut, 0, Box(1, from_right(1), 1, from_right(1)))
+        self.assertEqual(vars(caught.exception), {"width": 1, "height": 1})
+        self.assertEqual((type(caught.exception.__cause__), vars(caught.exception.__cause__)), (Gap, {"x": 0, "y": 0}))
+
+    def test_fewest(self):
+        twice = Program(Fill(Box(3, 4, 0, from_right()), 1), Fill(Box(5, 6, 0, from_right()), 1), Flood(0, 0, 2))
+        found = fewest(twice, [0, 1], Held(0, Box(0, 6, 0, from_right())))
+        self.assertEqual([found.kept, [(choice, no.paper, no.pixel) for choice, no in found.reasons]],
+                         [(0,), [((), ('no', 7, 1), (6, 0))]])
+        self.refused(NoDeed(2), fewest, twice, [1, 2], NoneLeft(3))
+
+    def test_areas(self):
+        ring = Program(Frame(Box(0, from_right(), 0, from_right()), 1))
+        even, odd = Sizes(4), Sizes(3)
+        self.assertEqual(
+            [str(area_sum(ring, 1, even, even)), str(area_sum(ring, 0, odd, even)),
+             str(area_sum(ring, 1, Sizes(2, 2), odd))],
+            ['4m + 4n - 4', '4mn - 4m - 2n + 2', '4n + 2'])
+        self.assertEqual(
+            [area_sum(ring, 1, even, even)(10, 4), str(Sum(1, -1, 0, 3) - Sum(0, 0, 0, 3)), str(Sum(0, 0, 0, 0)),
+             Sum.read("-mn + 2n") == Sum(-1, 0, 2, 0)],
+            [24, 'mn - m', '0', True])
+        self.refused(NoClass(4), area_sum, ring, 1, 4, even)

@@ -24,6 +24,9 @@ INTERFACE = {
     "classes": ["Sizes", "classes", "class_of", "pairs"],
     "judge": ["Verdict", "Yes", "No", "judge", "failing", "safe_from", "need"],
     "alike": ["alike", "parting", "within", "needless", "trimmed", "exchangeable", "commute", "settled"],
+    "floods": ["leak", "Leak", "need_held", "reach", "reaches"],
+    "walls": ["chosen", "fewest", "Walls"],
+    "areas": ["Sum", "area_sum", "area_sums"],
 }
 
 
