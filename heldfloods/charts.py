@@ -3,7 +3,7 @@
 from heldfloods.boards import Board, lowest
 from heldfloods.moves import Script, act_all
 from heldfloods.programs import Program
-from heldfloods.rulers import BITS, Ruler, ends_at
+from heldfloods.rulers import BITS, Ruler, cell_at, ends_at
 
 
 class Chart:
@@ -64,6 +64,15 @@ class Chart:
         columns, rows = self.ends_on(width, height)
         y, ahead = divmod(lowest(cells), self._down[height].step)
         return columns[ahead // BITS], rows[y]
+
+    def cells_at(self, width, height, pixels):
+        """The set of the cells of some pixels of a canvas."""
+        columns, rows = self.ends_on(width, height)
+        step = self._down[height].step
+        found = 0
+        for x, y in pixels:
+            found = found | 1 << cell_at(columns, x) * BITS + cell_at(rows, y) * step
+        return found
 
     def ends_on(self, width, height):
         """The ends of the cells of a canvas: the ascending lists of those of its columns and of its rows."""

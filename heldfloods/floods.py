@@ -62,8 +62,13 @@ def leak_on(program, index, box, width, height):
     region = [cells for cells in board.found[index] if cells & ~inside][0]
     columns, rows = chart.ends_on(width, height)
     signs = stretched_lines(board.lines(region + (region & ~inside)), columns, rows)
+    return Leak(width, height, way_out(signs, pixel_of(program, index, width, height), OUTSIDE))
+
+
+def pixel_of(program, index, width, height):
+    """The pixel of a flood on a canvas; it may be none there."""
     flood = [deed for deed in said_deeds(program.deeds) if isinstance(deed, Flood)][index]
-    return Leak(width, height, way_out(signs, (flood.x(width), flood.y(height)), OUTSIDE))
+    return flood.x(width), flood.y(height)
 
 
 def stretched_lines(lines, columns, rows):
