@@ -1,4 +1,4 @@
-"""The examples of the document, for the modules that are built, word by word."""
+"""The examples of the document, word by word."""
 
 from heldfloods.alike import alike, needless, settled, trimmed, within
 from heldfloods.areas import Sum, area_sum
@@ -7,16 +7,20 @@ from heldfloods.canvases import Canvas
 from heldfloods.claims import ColourAt, Covered, Held, NoneLeft
 from heldfloods.classes import Sizes, class_of, classes, pairs
 from heldfloods.deeds import Again, Boxed, Coloured, Copy, Fill, Flip, Flood, Frame, Grow, Pointed, When
+from heldfloods.desk import Desk
 from heldfloods.edges import edges
 from heldfloods.errors import (BadPicture, BadPixel, BadPlace, BadText, Fails, Gap, NoClass, NoDeed, NoFlood, TooMany,
                                Unlike)
 from heldfloods.floods import leak, need_held, reach
 from heldfloods.judge import failing, judge, safe_from
+from heldfloods.lookers import is_cover, shows_leak, shows_verdict
 from heldfloods.pictures import Picture
 from heldfloods.places import Place, first_beyond, from_left, from_middle, from_right
 from heldfloods.player import frames, play, regions_at
 from heldfloods.programs import Program
+from heldfloods.reader import read_claim, read_paper, read_program
 from heldfloods.strips import Strips
+from heldfloods.texts import program_text
 from heldfloods.walls import fewest
 from tests.helpers import Case
 
@@ -216,3 +220,40 @@ class Examples(Case):
              Sum.read("-mn + 2n") == Sum(-1, 0, 2, 0)],
             [24, 'mn - m', '0', True])
         self.refused(NoClass(4), area_sum, ring, 1, 4, even)
+
+    def test_lookers(self):
+        whole = Box(0, from_right(), 0, from_right())
+        self.assertEqual(
+            [is_cover([from_left(), from_right()], ((1, None), (2, None))),
+             is_cover([from_left(2), from_right()], ((1, None), (2, None)))],
+            [True, False])
+        program = Program(Frame(whole, 1), Flood(from_middle(), from_middle(), 2))
+        self.assertEqual(
+            [shows_verdict(program, NoneLeft(2), ("no", 5, 4)), shows_verdict(program, NoneLeft(2), ("no", 0, 4))],
+            [True, False])
+        box = Box(1, from_right(), 0, from_right())
+        self.assertEqual(
+            [shows_leak(program, 0, box, 2, 1, ((1, 0), (0, 0))), shows_leak(program, 0, box, 3, 3, ((1, 1),))],
+            [True, False])
+
+    def test_texts(self):
+        self.same(program_text(Program(Again(2, Grow(1)), Fill(Box(2, from_right(2), 0, from_middle(1)), 3))),
+                  'again 2\ngrow 1\nend\nfill left 2 right 2 left 0 middle 1 3')
+        self.assertTrue(read_claim("both held 0 left 0 middle 1 left 0 right 0 not none 3")
+                        == Held(0, Box(0, from_middle(1), 0, from_right())) & ~NoneLeft(3))
+        self.same(read_paper("yes 1 2.. 3.. and 1.. 2.."),
+                  ('yes', ((1, 1), (2, None), (3, None)), ((1, None), (2, None))))
+        self.refused(BadText(0, 2), read_program, "grow 1 ")
+        self.refused(BadText(2, 0), read_program, "again 2\ngrow 1")
+        self.refused(BadText(0, 3), read_program, "flood left 0 place 0 3 0 1")
+
+    def test_desk(self):
+        desk = Desk()
+        self.assertEqual(
+            desk.run("program frame left 0 right 0 left 0 right 0 1 1", "add flood middle 0 middle 0 2", "paint 4 3",
+                     "claim in held 0 left 1 right 1 left 1 right 1", "judge in", "safe in"),
+            ['ok', 'ok', '1111 / 1221 / 1111', 'ok', 'no 1 1', '3'])
+        self.assertEqual(
+            desk.run("leak 0 left 1 right 1 left 1 right 1", "drop 0", "show", "undo", "undo", "show"),
+            ['1 1 0,0', 'ok', 'flood middle 0 middle 0 2', 'ok', 'ok',
+             'frame left 0 right 0 left 0 right 0 1 1 ; flood middle 0 middle 0 2'])

@@ -27,6 +27,10 @@ INTERFACE = {
     "floods": ["leak", "Leak", "need_held", "reach", "reaches"],
     "walls": ["chosen", "fewest", "Walls"],
     "areas": ["Sum", "area_sum", "area_sums"],
+    "lookers": ["is_cover", "shows_verdict", "shows_alike", "shows_within", "shows_least", "shows_leak", "shows_fewest"],
+    "texts": ["program_text", "claim_text", "paper_text"],
+    "reader": ["read_program", "read_claim", "read_paper"],
+    "desk": ["Desk"],
 }
 
 
