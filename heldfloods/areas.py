@@ -120,7 +120,7 @@ def area_sum(program, colour, widths, heights):
     wide_classes, high_classes = class_lists(across, down)
     check_class(widths, wide_classes)
     check_class(heights, high_classes)
-    chart = Chart((program,), across, down, [widths.low], [heights.low])
+    chart = Chart((program,), across, down)
     found = patches(chart, colour, widths.low, heights.low)
     return sum_of(found, forms(across, widths), forms(down, heights))
 

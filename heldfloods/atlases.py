@@ -12,5 +12,4 @@ class Atlas:
         self.across, self.down = edge_parts("across", things), edge_parts("down", things)
         self.widths, self.heights = class_lists(self.across, self.down)
         self.pages = ordered_pairs(self.widths, self.heights)
-        widths, heights = [sizes.low for sizes in self.widths], [sizes.low for sizes in self.heights]
-        self.chart = Chart(things, self.across, self.down, widths, heights)
+        self.chart = Chart(things, self.across, self.down)

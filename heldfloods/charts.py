@@ -6,50 +6,58 @@ from heldfloods.programs import Program
 from heldfloods.rulers import BITS, Ruler, cell_at, ends_at
 
 
+class Lane:
+    """One axis of a chart, by its edges: what is known of each size that was asked for."""
+
+    def __init__(self, axis, edges, step, lines):
+        self._axis = axis
+        self._edges = edges
+        self._step = step
+        self._lines = lines
+        self._known = {}
+        self._kinds = {}
+
+    def known(self, size):
+        """The ruler of a size, its track, and the number of its kind."""
+        if size not in self._known:
+            ruler = Ruler(self._axis, size, ends_at(self._edges, size), self._step)
+            track = tuple([line.marks(ruler) for line in self._lines])
+            kind = self._kinds.setdefault((len(ruler.ends), track), len(self._kinds))
+            self._known[size] = ruler, track, kind
+        return self._known[size]
+
+
 class Chart:
-    """Some programs, and some claims, on all canvases with some widths and some heights, by the edges of both axes.
+    """Some programs, and some claims, on canvases of any sizes, by the edges of both axes.
 
     Two widths are of one kind if all that is needed of them is the same; so are two heights. On canvases of one kind
     all boards have the same cells and colours: only how wide and how high their cells are may be unlike.
     """
 
-    def __init__(self, things, across, down, widths, heights):
-        self._lines = []
+    def __init__(self, things, across, down):
+        lines = []
         self.scripts = []
         for thing in things:
             if isinstance(thing, Program):
-                self.scripts.append(Script(thing, self._lines))
+                self.scripts.append(Script(thing, lines))
         # Claims have numbers behind all moves, in their order.
-        self.behind = len(self._lines)
+        self.behind = len(lines)
         for thing in things:
             if not isinstance(thing, Program):
-                self._lines.extend(list(thing.singles()))
-        ends = {size: ends_at(across, size) for size in widths}
+                lines.extend(list(thing.singles()))
+        self._across = Lane("across", across, BITS, lines)
         # With a cell that is always 0 behind each row, nothing comes from one row into the next one.
-        step = BITS * max([len(found) for found in ends.values()])
-        self._across = {size: Ruler("across", size, ends[size], BITS) for size in widths}
-        self._down = {size: Ruler("down", size, ends_at(down, size), step) for size in heights}
-        self._wide = self.tracks(self._across)
-        self._high = self.tracks(self._down)
-        self._kinds = {}
-
-    def tracks(self, rulers):
-        """For each size what is needed of it, and the number of its kind."""
-        found, numbers = {}, {}
-        for size, ruler in rulers.items():
-            track = tuple([line.marks(ruler) for line in self._lines])
-            number = numbers.setdefault((len(ruler.ends), track), len(numbers))
-            found[size] = track, number
-        return found
+        self._down = Lane("down", down, BITS * len(across), lines)
 
     def kind(self, width, height):
         """A value that is the same for canvases of one kind."""
-        return self._wide[width][1], self._high[height][1]
+        return self._across.known(width)[2], self._down.known(height)[2]
 
     def blank(self, width, height, which):
         """The board of a canvas ahead of the program with an index."""
-        wide, high = self._wide[width][0], self._high[height][0]
-        return Board(self._across[width], self._down[height], wide, high, self.scripts[which].counted)
+        across, wide, _ = self._across.known(width)
+        down, high, _ = self._down.known(height)
+        return Board(across, down, wide, high, self.scripts[which].counted)
 
     def board(self, width, height, which):
         """The board of a canvas that the program with an index has painted."""
@@ -62,13 +70,13 @@ class Chart:
         if not cells:
             return None
         columns, rows = self.ends_on(width, height)
-        y, ahead = divmod(lowest(cells), self._down[height].step)
+        y, ahead = divmod(lowest(cells), self._down.known(height)[0].step)
         return columns[ahead // BITS], rows[y]
 
     def cells_at(self, width, height, pixels):
         """The set of the cells of some pixels of a canvas."""
         columns, rows = self.ends_on(width, height)
-        step = self._down[height].step
+        step = self._down.known(height)[0].step
         found = 0
         for x, y in pixels:
             found = found | 1 << cell_at(columns, x) * BITS + cell_at(rows, y) * step
@@ -76,7 +84,7 @@ class Chart:
 
     def ends_on(self, width, height):
         """The ends of the cells of a canvas: the ascending lists of those of its columns and of its rows."""
-        return self._across[width].ends, self._down[height].ends
+        return self._across.known(width)[0].ends, self._down.known(height)[0].ends
 
 
 class Survey:

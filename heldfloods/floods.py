@@ -56,7 +56,7 @@ def leak(program, index, box):
 def leak_on(program, index, box, width, height):
     """The Leak on a canvas on which the flood leaks."""
     things = program, Held(index, box)
-    chart = Chart(things, edge_parts("across", things), edge_parts("down", things), [width], [height])
+    chart = Chart(things, edge_parts("across", things), edge_parts("down", things))
     board = chart.board(width, height, 0)
     inside = board.patch(chart.behind)
     region = [cells for cells in board.found[index] if cells & ~inside][0]
@@ -94,7 +94,7 @@ def reach(program, index, width, height):
     check_flood(program, index)
     check_canvas(width, height)
     things = (program,)
-    chart = Chart(things, edge_parts("across", things), edge_parts("down", things), [width], [height])
+    chart = Chart(things, edge_parts("across", things), edge_parts("down", things))
     sides = cell_bounds(chart.board(width, height, 0), index)
     if sides is None:
         return None

@@ -98,7 +98,7 @@ def shows_no(things, holds, paper):
     if not (is_paper(paper, "no") and is_side(paper[1], GREATEST) and is_side(paper[2], GREATEST)):
         return False
     width, height = paper[1], paper[2]
-    chart = Chart(things, edge_parts("across", things), edge_parts("down", things), [width], [height])
+    chart = Chart(things, edge_parts("across", things), edge_parts("down", things))
     return not holds(chart, width, height)
 
 
@@ -116,12 +116,10 @@ def are_covers(things, widths, heights):
 
 def holds_ahead(things, holds, widths, heights, beyond):
     """Whether what a function tells holds on the canvas of each two lows; on those ahead of one, if there is one."""
-    wide_lows, high_lows = [low for low, _ in widths], [low for low, _ in heights]
-    across, down = edge_parts("across", things), edge_parts("down", things)
-    chart = Chart(things, across, down, wide_lows, high_lows)
+    chart = Chart(things, edge_parts("across", things), edge_parts("down", things))
     survey = Survey(chart, lambda width, height: holds(chart, width, height))
-    for wide in wide_lows:
-        for high in high_lows:
+    for wide, _ in widths:
+        for high, _ in heights:
             if (beyond is None or is_ahead(wide, high, beyond)) and not survey.seen(wide, high):
                 return False
     return True
@@ -151,7 +149,7 @@ def shows_leak(program, index, box, width, height, path):
     if inside[-1] or not all(inside[:-1]) or path[0] != pixel_of(program, index, width, height):
         return False
     things = (program,)
-    chart = Chart(things, edge_parts("across", things), edge_parts("down", things), [width], [height])
+    chart = Chart(things, edge_parts("across", things), edge_parts("down", things))
     cells = chart.cells_at(width, height, path)
     return any([not cells & ~region for region in chart.board(width, height, 0).found[index]])
 

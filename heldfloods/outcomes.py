@@ -19,6 +19,6 @@ def outcome_on(claim, program, width, height):
     check_floods(claim, program)
     things = program, claim
     across, down = loose_parts("across", things), loose_parts("down", things)
-    chart = Chart(things, across, down, [width], [height])
+    chart = Chart(things, across, down)
     held, wrong = claim.outcome(chart.board(width, height, 0), chart.behind)
     return held, chart.first_pixel(width, height, wrong)

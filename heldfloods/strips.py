@@ -17,7 +17,7 @@ class Strips:
         check_canvas(width, height)
         things = (program,)
         across, down = edge_parts("across", things), edge_parts("down", things)
-        board = Chart(things, across, down, [width], [height]).board(width, height, 0)
+        board = Chart(things, across, down).board(width, height, 0)
         self._program = program
         self._board = board
         self._columns = tuple(board.across.ends)
