@@ -100,7 +100,8 @@ class Board:
         """The list of the rows of an integer like that of the colours: strings with one figure for each cell."""
         wide, high = len(self.across.ends) - 1, len(self.down.ends) - 1
         stride = self.down.step // BITS
-        figures = f"{signs:x}"[::-1].ljust(high * stride, "0")
+        figures = f"{signs:x}"
+        figures = figures[::-1].ljust(high * stride, "0")
         return [figures[y * stride:y * stride + wide] for y in range(high)]
 
 

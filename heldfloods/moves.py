@@ -5,7 +5,7 @@ of a board when it acts.
 """
 
 from heldfloods.boxes import box_ends
-from heldfloods.deeds import Again, Copy, Fill, Flip, Frame, Grow, Swap, When
+from heldfloods.deeds import Again, Boxed, Copy, Fill, Flip, Frame, Grow, Pointed, Swap, When
 from heldfloods.programs import floods_said
 
 
@@ -175,6 +175,7 @@ class Script:
         if isinstance(deed, Again):
             # What is never done adds no edges, so nothing can be told of it on any axis. Its floods are said.
             self.counted = self.counted + floods_said(deed.deeds)
+        if not isinstance(deed, (Boxed, Pointed, Flip)):
             return AgainMove(0, [])
         move = self.placed_move(deed, len(self._lines))
         self._lines.append(move)

@@ -43,7 +43,8 @@ def parts(words, at, letters):
         elif letter == "p":
             at = place(words, at)
         else:
-            at = word(words, at, {"c": "[0-9]", "a": "across|down", "k": NATURAL, "w": COUNT, "n": "[a-z]{1,8}"}[letter])
+            at = word(words, at, {"c": "[0-9]", "a": "across|down", "k": NATURAL, "w": COUNT,
+                                  "n": "[a-z]{1,8}"}[letter])
     return at
 
 

@@ -82,7 +82,8 @@ class Sums(Case):
     def test_text(self):
         for row, text in (((0, 0, 0, 0), "0"), ((1, 1, 1, 1), "mn + m + n + 1"), ((-1, -1, -1, -1), "-mn - m - n - 1"),
                           ((4, -4, 2, -2), "4mn - 4m + 2n - 2"), ((0, 0, -1, 0), "-n"), ((0, -10, 0, 1), "-10m + 1"),
-                          ((0, 0, 0, -7), "-7"), ((0, 1, 0, 0), "m"), ((11, 0, 0, -1), "11mn - 1"), ((0, 0, 1, -2), "n - 2")):
+                          ((0, 0, 0, -7), "-7"), ((0, 1, 0, 0), "m"), ((11, 0, 0, -1), "11mn - 1"),
+                          ((0, 0, 1, -2), "n - 2")):
             self.same(str(Sum(*row)), text)
             self.assertEqual(four(Sum.read(text)), row)
         for one in some_sums(83, 80):
@@ -90,8 +91,10 @@ class Sums(Case):
 
     def test_other_texts(self):
         source = random.Random(84)
-        texts = ["+1", "1m", "-1m", "01", "00", "-0", "0m", "m + 0", "0 + m", "m+n", "m  + n", " m", "m ", "m + n\n", "n + m",
-                 "1 + m", "m + m", "1 + 1", "nm", "2nm", "2 m", "m * 2", "- m", "m +", "+ m", "m + -n", "m - -n", "M", "mnn",
+        texts = ["+1", "1m", "-1m", "01", "00", "-0", "0m", "m + 0", "0 + m", "m+n", "m  + n", " m", "m ", "m + n\n",
+                 "n + m",
+                 "1 + m", "m + m", "1 + 1", "nm", "2nm", "2 m", "m * 2", "- m", "m +", "+ m", "m + -n", "m - -n", "M",
+                 "mnn",
                  "m2", "--m", "-", "", "m +n", "x", "mn + mn", "mm", "m + n + ", "1_0", "\n0", "0mn + m", "-mn + 0",
                  "1mn", "m + 1n", "m - 01", "m , n", "m / n", "-+m"]
         for text in texts:
@@ -165,7 +168,8 @@ class Areas(Case):
                 total = total + told
             wide, high = rows[0][:2]
             e, f = wide.low % 2, high.low % 2
-            m, n = (wide.low // 2 if wide.high == wide.low else None), (high.low // 2 if high.high == high.low else None)
+            m, n = (wide.low // 2 if wide.high == wide.low else None), (high.low // 2 if high.high == high.low
+                                                                        else None)
             whole = (4 if m is None and n is None else 0,
                      0 if m is not None else 2 * (f if n is None else high.low),
                      0 if n is not None else 2 * (e if m is None else wide.low),

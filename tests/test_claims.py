@@ -226,7 +226,8 @@ class OnCanvases(Case):
                 (bad & good, (False, (0, 0))), (good & worse, (False, (1, 1))), (bad & worse, (False, (0, 0))),
                 (worse & bad, (False, (1, 1))), (good & good, (True, None)), (bad | worse, (False, (0, 0))),
                 (worse | bad, (False, (1, 1))), (bad | good, (True, None)), (good | bad, (True, None)),
-                (~good, (False, None)), (~bad, (True, None)), (~good | bad, (False, None)), (bad | ~good, (False, (0, 0))),
+                (~good, (False, None)), (~bad, (True, None)), (~good | bad, (False, None)),
+                (bad | ~good, (False, (0, 0))),
                 (~good & bad, (False, None)), (bad & ~good, (False, (0, 0))), (~(bad & good), (True, None)),
                 (Not(Not(bad)), (False, None)), (Not(Not(good)), (True, None))):
             self.assertEqual(whole_side(claim, RING, 3), wanted, str(claim))

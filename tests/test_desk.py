@@ -23,7 +23,6 @@ WHOLE = Box.whole()
 RING = Program(Frame(WHOLE, 1), Flood(from_middle(), from_middle(), 2))
 LONG, LONGER = "9" * 60, "1" + "0" * 60
 FAR = 10 ** 12 + 1
-ONE_NUMBER, ONE_NAME, ALONE = ("drop", "turn"), ("keep", "use", "judge", "safe", "alike"), ("mirror", "undo", "show", "needless")
 STRANGE = ["", "-1", "01", "1.0", "x1", "A", "+1", LONGER, "a b"[1:], ";", "1\n"]
 
 
@@ -70,14 +69,16 @@ class Lines(Case):
 
     def test_empty_blocks(self):
         desk = Desk()
-        for text in ("again 2 ; end", "when left 0 left 0 1 ; end", "again 1 ; again 0 ; end ; when left 0 left 0 1 ; end ; end",
+        for text in ("again 2 ; end", "when left 0 left 0 1 ; end",
+                     "again 1 ; again 0 ; end ; when left 0 left 0 1 ; end ; end",
                      "when left 0 left 0 1 ; else ; grow 1 ; end", "none"):
             self.assertEqual(desk.run("program " + text, "show"), ["ok", text])
         self.assertEqual(desk.run("program grow 1", "add none", "show"), ["ok", "ok", "grow 1"])
 
     def test_names(self):
         desk = Desk()
-        self.assertEqual(desk.run("program grow 1", "keep b", "program grow 2", "keep abcdefgh", "claim a none 3", "keep b"),
+        self.assertEqual(desk.run("program grow 1", "keep b", "program grow 2", "keep abcdefgh", "claim a none 3",
+                                  "keep b"),
                          ["ok"] * 6)
         self.same(desk.titles, ("a", "abcdefgh", "b"))
         self.same(desk.titled("b"), Program(Grow(2)))
@@ -101,7 +102,8 @@ class Lines(Case):
             if "not not" in str(claim):
                 continue
             box = source.choice([maker.box(), WHOLE])
-            desk.run("program " + line_of(other), "keep other", "program " + line_of(program), "claim it " + claim_text(claim))
+            desk.run("program " + line_of(other), "keep other", "program " + line_of(program),
+                     "claim it " + claim_text(claim))
             width, height = source.randint(1, 6), source.randint(1, 5)
             x, y, colour = source.randrange(width), source.randrange(height), source.randrange(4)
             for line, wanted in (
@@ -128,7 +130,8 @@ class Lines(Case):
 
     def test_undo(self):
         desk = Desk()
-        lines = ["program grow 1", "keep a", "claim b none 1", "add grow 1", "turn 0", "mirror", "use a", "keep a", "drop 0",
+        lines = ["program grow 1", "keep a", "claim b none 1", "add grow 1", "turn 0", "mirror", "use a", "keep a",
+                 "drop 0",
                  "claim a none 2"]
         seen = [state(desk)]
         for k in range(100):
@@ -193,12 +196,14 @@ class Refused(Case):
             self.refused(NoRow(value), self.desk.ask, value)
             self.refused(NoRow(value), self.desk, value)
             self.refused(NoRow(value), self.desk.run, "mirror", value)
-        for line, word in (("", ""), (" show", ""), ("Show", "Show"), ("shows 1", "shows"), ("show\n", "show\n"), ("; show", ";"),
+        for line, word in (("", ""), (" show", ""), ("Show", "Show"), ("shows 1", "shows"), ("show\n", "show\n"),
+                           ("; show", ";"),
                            ("grow 1", "grow"), ("none", "none"), ("ask show", "ask"), ("show\tx 1", "show\tx")):
             self.refused(NoRow(word), self.desk.ask, line)
 
     def test_one_word_too_many_or_missing(self):
-        right = ["drop 0", "turn 0", "mirror", "keep a", "use ring", "undo", "show", "paint 3 3", "colour 0 0 3 3", "area 1 3 3",
+        right = ["drop 0", "turn 0", "mirror", "keep a", "use ring", "undo", "show", "paint 3 3", "colour 0 0 3 3",
+                 "area 1 3 3",
                  "judge held", "safe held", "alike ring", "needless", "leak 0 left 1 right 1 left 1 place 1 2 3"]
         for line in right:
             words = line.split(" ")
@@ -245,22 +250,31 @@ class Refused(Case):
                 self.refused(BadText(0, min(ahead, len(line.split(" ")))), self.desk.ask, line)
 
     def test_signs_between_lines(self):
-        for line, at in (("program grow 1 ;", 3), ("program grow 1 ; ", 4), ("program ; grow 1", 1), ("program grow 1 ; ; grow 2", 4),
+        for line, at in (("program grow 1 ;", 3), ("program grow 1 ; ", 4), ("program ; grow 1", 1),
+                         ("program grow 1 ; ; grow 2", 4),
                          ("program grow ; grow 1", 2), ("program grow 1 ;grow 2", 3), ("program again 2", 3),
-                         ("program again 2 ; grow 1", 6), ("add again 2 ; ; end", 4), ("program again 2 ; end ; end", 6),
+                         ("program again 2 ; grow 1", 6), ("add again 2 ; ; end", 4),
+                         ("program again 2 ; end ; end", 6),
                          ("program none ; grow 1", 3), ("program none ;", 2), ("claim a none 1 ; none 2", 5),
-                         ("claim a none 1 ;", 4), ("claim a none ; none 1", 3), ("claim a not not none 1", 3), ("claim ; none 1", 1),
-                         ("program grow 1\ngrow 2", 2), ("program when left 0 left 0 1 ; else ; end", 10), ("add none ; none", 3)):
+                         ("claim a none 1 ;", 4), ("claim a none ; none 1", 3), ("claim a not not none 1", 3),
+                         ("claim ; none 1", 1),
+                         ("program grow 1\ngrow 2", 2), ("program when left 0 left 0 1 ; else ; end", 10),
+                         ("add none ; none", 3)):
             self.refused(BadText(0, at), self.desk.ask, line)
 
     def test_names_and_what_is_called(self):
         for line, error in (
-                ("use held", NoName("held")), ("use x", NoName("x")), ("judge ring", NoName("ring")), ("safe x", NoName("x")),
-                ("alike held", NoName("held")), ("alike x", NoName("x")), ("judge far", NoFlood(7)), ("safe far", NoFlood(7)),
-                ("drop 2", NoDeed(2)), ("turn 1", NoDeed(1)), ("paint 0 0", BadSize("width")), ("paint 200 201", BadSize("height")),
+                ("use held", NoName("held")), ("use x", NoName("x")), ("judge ring", NoName("ring")),
+                ("safe x", NoName("x")),
+                ("alike held", NoName("held")), ("alike x", NoName("x")), ("judge far", NoFlood(7)),
+                ("safe far", NoFlood(7)),
+                ("drop 2", NoDeed(2)), ("turn 1", NoDeed(1)), ("paint 0 0", BadSize("width")),
+                ("paint 200 201", BadSize("height")),
                 ("colour 0 0 0 0", BadSize("width")), (f"colour 0 0 1 {10 ** 40 + 1}", BadSize("height")),
-                ("colour 3 0 3 1", BadPixel(3, 0)), ("area 1 1 0", BadSize("height")), ("leak 1 left 0 left 0 left 0 left 0", NoFlood(1)),
-                (f"leak 1 left {FAR} left 0 left 0 left 0", BadPlace("x0")), ("leak 0 left 0 left 300 left 0 right 0 x", BadText(0, 10)),
+                ("colour 3 0 3 1", BadPixel(3, 0)), ("area 1 1 0", BadSize("height")),
+                ("leak 1 left 0 left 0 left 0 left 0", NoFlood(1)),
+                (f"leak 1 left {FAR} left 0 left 0 left 0", BadPlace("x0")),
+                ("leak 0 left 0 left 300 left 0 right 0 x", BadText(0, 10)),
                 ("program again 9 ; again 9 ; grow 1 ; end ; end", TooMany("done", 48)),
                 (f"add fill left 0 left 0 right {FAR} left 0 1", BadPlace("y0")),
                 ("add frame left 0 left 0 left 0 left 0 1 0", BadDeed("thick")),

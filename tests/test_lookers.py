@@ -105,7 +105,8 @@ class Covers(Case):
 
     def test_values(self):
         for value in VALUES:
-            for rows in (value, (value,), [value], (*PLAIN, value), ((1, value), (2, None)), ((value, None), (2, None))):
+            for rows in (value, (value,), [value], (*PLAIN, value), ((1, value), (2, None)),
+                         ((value, None), (2, None))):
                 if rows not in (PLAIN, ((1, 1), (2, None)), ((1, None), (2, None))) or value is True:
                     self.same(is_cover(ENDS, rows), False)
         self.assertTrue(is_cover(ENDS, ((1, 1), (3, None), (2, 10 ** 60 - 2), (10 ** 60, None))))
@@ -153,7 +154,8 @@ class Verdicts(Case):
 
         def two(maker, source):
             one = maker.program()
-            other = source.choice([one + maker.flood(), one + Swap(1, 1), one.exchanged(0), one + one[1], maker.program()])
+            other = source.choice([one + maker.flood(), one + Swap(1, 1), one.exchanged(0), one + one[1],
+                                   maker.program()])
             return one, other, alike(one, other), within(one, other)
 
         seen = []
@@ -253,7 +255,8 @@ class Leaking(Case):
 
         def case(maker, source):
             flood = maker.flood()
-            program = maker.program() + source.choice([flood, Again(2, flood, Flip("down")), Again(2, flood, maker.flood())])
+            program = maker.program() + source.choice([flood, Again(2, flood, Flip("down")),
+                                                       Again(2, flood, maker.flood())])
             index = source.randrange(program.floods)
             box = source.choice([maker.box(), Box(flood.x - 1, flood.x + 2, flood.y - 2, flood.y + 2)])
             return program, index, box, leak(program, index, box)
@@ -310,7 +313,8 @@ class Leaking(Case):
             self.same(shows_leak(program, 0, box, 200, value, path), False)
         near = Box(1, 2, 0, 1)
         self.assertTrue(shows_leak(program, 0, near, 1, 1, ((0, 0),)))
-        for path in ((), [], ([0, 0],), ((0, 0, 0),), ((False, 0),), ((0, False),), ((0,),), ("00",), ((0, -1),), ((1, 0),)):
+        for path in ((), [], ([0, 0],), ((0, 0, 0),), ((False, 0),), ((0, False),), ((0,),), ("00",), ((0, -1),),
+                     ((1, 0),)):
             self.same(shows_leak(program, 0, near, 1, 1, path), False)
         self.assertFalse(shows_leak(program, 0, near, True, 1, ((0, 0),)))
         self.assertFalse(shows_leak(Program(Flood(3, 0, 1)), 0, near, 3, 1, ((3, 0),)))
@@ -325,7 +329,8 @@ class Few(Case):
         self.same(shows_fewest(program=program, indexes=tuple(indexes), claim=claim, kept=found.kept,
                                reasons=list(reasons), paper=paper), True)
         more = reasons + (((0,), ("no", 1, 1)),)
-        for rows in [more, more[1:], reasons[:-1] if reasons else [None], [list(row) for row in reasons] or None, *VALUES]:
+        for rows in [more, more[1:], reasons[:-1] if reasons else [None], [list(row) for row in reasons] or None,
+                     *VALUES]:
             if rows not in (reasons, list(reasons)):
                 self.same(shows_fewest(program, indexes, claim, found.kept, rows, paper), False)
         if len(reasons) > 1:

@@ -19,7 +19,8 @@ READERS = {"program": read_program, "claim": read_claim, "paper": read_paper}
 WRITERS = {"program": program_text, "claim": claim_text, "paper": paper_text}
 FAR = 10 ** 12 + 1
 LONG, LONGER = "9" * 60, "1" + "0" * 60
-WORDS = ["", "0", "1", "9", "10", "-1", "-0", "01", "left", "right", "middle", "place", "fill", "frame", "flood", "copy",
+WORDS = ["", "0", "1", "9", "10", "-1", "-0", "01", "left", "right", "middle", "place", "fill", "frame", "flood",
+         "copy",
          "flip", "swap", "grow", "again", "when", "else", "end", "none", "across", "down", "colour", "covered",
          "mirrored", "held", "both", "either", "not", "yes", "no", "and", "1..", "2..8", "3..4", "x", LONG, LONGER, ";",
          "+1", "1.0", "Left", "1\t", "3..3", "..", "..2", "2...4", "0..2", "1..03"]
@@ -46,8 +47,10 @@ def papers(source, many):
         return low, source.choice([None, low, low + 2, low + 10 ** 30])
 
     found = [("no", source.randint(1, 99), source.choice([1, 10 ** 40])) for _ in range(many // 2)]
-    return found + [("yes", tuple(row() for _ in range(source.randint(1, 4))), tuple(row() for _ in range(source.randint(1, 3))))
-                    for _ in range(many // 2)]
+    def rows():
+        return tuple(row() for _ in range(source.randint(1, 4)))
+
+    return found + [("yes", rows(), rows()) for _ in range(many // 2)]
 
 
 def claims(source, many):
@@ -62,7 +65,8 @@ def things(source, many):
 class Written(Case):
     def test_texts(self):
         program = Program(Frame(Box.inside(1), 2, 3), When(0, from_right(1), 4, [Swap(1, 2)], [Again(0), Grow(3)]))
-        self.same(program_text(program), "frame left 1 right 1 left 1 right 1 2 3\nwhen left 0 right 1 4\nswap 1 2\nelse\n"
+        self.same(program_text(program),
+                  "frame left 1 right 1 left 1 right 1 2 3\nwhen left 0 right 1 4\nswap 1 2\nelse\n"
                                          "again 0\nend\ngrow 3\nend")
         self.same(program_text(program=Program()), "none")
         self.same(claim_text(claim=Both(Held(2, Box(0, 1, Place(3, 4, 5), 2)), ~Mirrored("down"))),
@@ -90,7 +94,8 @@ class Written(Case):
 
     def test_every_deed_and_claim(self):
         box = Box(from_left(-1), from_right(-2), from_middle(3), Place(-4, 5, -6))
-        deeds = [Fill(box, 9), Frame(box, 0, 10 ** 30), Flood(box.x1, box.y1, 1), Copy(box, box.x0, box.y0), Flip("across"),
+        deeds = [Fill(box, 9), Frame(box, 0, 10 ** 30), Flood(box.x1, box.y1, 1), Copy(box, box.x0, box.y0),
+                 Flip("across"),
                  Flip("down"), Swap(3, 3), Grow(0), Again(9), When(box.x0, box.x1, 3, [])]
         for deed in deeds:
             self.same(read_program(str(deed)), Program(deed))
@@ -121,7 +126,8 @@ class Refused(Case):
             for line, words in enumerate(lines):
                 for at in range(len(words) + 1):
                     left = [words[:at] + words[at + 1:]] if at < len(words) else []
-                    changes = [words[:at] + [new] + words[at + step:] for new in source.sample(WORDS, 8) for step in (0, 1)]
+                    changes = [words[:at] + [new] + words[at + step:] for new in source.sample(WORDS, 8)
+                               for step in (0, 1)]
                     for changed in left + changes:
                         rows = lines[:line] + [changed] + lines[line + 1:]
                         self.look_at(kind, "\n".join(" ".join(row) for row in rows))
@@ -130,7 +136,8 @@ class Refused(Case):
 
     def test_every_line(self):
         source = random.Random(103)
-        lines = ["end", "else", "none", "", "grow 1", "again 2", "when left 0 left 0 1", "fill left 0", "end end", "else 1",
+        lines = ["end", "else", "none", "", "grow 1", "again 2", "when left 0 left 0 1", "fill left 0", "end end",
+                 "else 1",
                  " grow 1", "grow 1 ", "grow  1"]
         for _ in range(3000):
             self.look_at("program", "\n".join(source.choice(lines[:7] if source.random() < 0.8 else lines)
@@ -165,22 +172,28 @@ class Refused(Case):
                 ("when left 0 left 0 1\nelse\nend", 2, 0), ("when left 0 left 0 1\nelse\nelse", 2, 0),
                 ("when left 0 left 0 1\nelse\ngrow 1\nelse", 3, 0), ("when left 0 left 0 1\nelse", 2, 0),
                 ("when left 0 left 0 1\nagain 1\nelse\nend\nend", 2, 0), ("again 10", 0, 1), ("again -1", 0, 1),
-                ("grow", 0, 1), ("grow 1 1", 0, 2), ("flood left 0 place 2 4 1 1", 0, 3), ("flood place 1 0 0 left 0 1", 0, 1),
+                ("grow", 0, 1), ("grow 1 1", 0, 2), ("flood left 0 place 2 4 1 1", 0, 3),
+                ("flood place 1 0 0 left 0 1", 0, 1),
                 ("flood place 1 0 x left 0 1", 0, 4), ("frame left 0 left 0 left 0 left 0 1 -1", 0, 10),
-                ("frame left 0 left 0 left 0 left 0 1", 0, 10), ("swap 1 10", 0, 2), ("flip up", 0, 1), ("grow 1\nend", 1, 0),
+                ("frame left 0 left 0 left 0 left 0 1", 0, 10), ("swap 1 10", 0, 2), ("flip up", 0, 1),
+                ("grow 1\nend", 1, 0),
                 ("again 2\nagain 2\nend", 3, 0), ("again 1\nend end", 1, 1), ("grow 1\n\ngrow 1", 1, 0)):
             self.refused(BadText(line, word), read_program, text)
         for text, line, word in (
                 ("not not none 1", 0, 1), ("not both not none 1 not not none 1", 0, 6), ("none 1\nnone 1", 1, 0),
                 ("none 1\n", 1, 0), ("both none 1", 0, 3), ("both none 1 none 2 none 3", 0, 5), ("held -1", 0, 1),
-                ("none 12", 0, 1), ("mirrored", 0, 1), ("x", 0, 0), ("both", 0, 1), ("covered left 0", 0, 3), ("grow 1", 0, 0),
+                ("none 12", 0, 1), ("mirrored", 0, 1), ("x", 0, 0), ("both", 0, 1), ("covered left 0", 0, 3),
+                ("grow 1", 0, 0),
                 ("none 1 \nx", 0, 2)):
             self.refused(BadText(line, word), read_claim, text)
         for text, line, word in (
-                ("no", 0, 1), ("no 0 1", 0, 1), ("no 1 0", 0, 2), ("no 1 1 1", 0, 3), ("yes and 1..", 0, 1), ("yes 1..", 0, 2),
-                ("yes 1.. and", 0, 3), ("yes 1.. and and", 0, 3), ("yes 1.. and 1.. and 1..", 0, 4), ("yes 3..3 and 1", 0, 1),
+                ("no", 0, 1), ("no 0 1", 0, 1), ("no 1 0", 0, 2), ("no 1 1 1", 0, 3), ("yes and 1..", 0, 1),
+                ("yes 1..", 0, 2),
+                ("yes 1.. and", 0, 3), ("yes 1.. and and", 0, 3), ("yes 1.. and 1.. and 1..", 0, 4),
+                ("yes 3..3 and 1", 0, 1),
                 ("yes 3..4 and 1", 0, 1), ("yes 3..1 and 1", 0, 1), ("yes 0.. and 1", 0, 1), ("yes 1.. and 1\n", 1, 0),
-                ("no 1 1\nno 1 1", 1, 0), (f"no {LONGER} 1", 0, 1), (f"yes 1..{LONGER} and 1", 0, 1), ("yes 1 1", 0, 3)):
+                ("no 1 1\nno 1 1", 1, 0), (f"no {LONGER} 1", 0, 1), (f"yes 1..{LONGER} and 1", 0, 1),
+                ("yes 1 1", 0, 3)):
             self.refused(BadText(line, word), read_paper, text)
 
     def test_long_numbers(self):
@@ -201,7 +214,8 @@ class Built(Case):
         box, far = "left 0 left 1 left 0 left 1", f"left {FAR} left 1 left 0 left 1"
         for text, error in (
                 (f"frame {box} 1 0", BadDeed("thick")), (f"fill {far} 1", BadPlace("x0")),
-                (f"frame {box} 1 0\nfill {far} 1", BadDeed("thick")), (f"fill {far} 1\nframe {box} 1 0", BadPlace("x0")),
+                (f"frame {box} 1 0\nfill {far} 1", BadDeed("thick")),
+                (f"fill {far} 1\nframe {box} 1 0", BadPlace("x0")),
                 (f"frame {far} 1 0", BadPlace("x0")), (f"copy {box} left {FAR} left {FAR}", BadPlace("x")),
                 (f"copy {box} left 0 right {FAR}", BadPlace("y")),
                 (f"when left {FAR} left 0 1\nframe {box} 1 0\nend", BadDeed("thick")),
@@ -218,7 +232,8 @@ class Built(Case):
         for text, error in (
                 (none, TooMany("claims", 8)), (f"both colour left {FAR} left 0 1 {none}", BadClaim("x")),
                 (f"both {none} colour left {FAR} left 0 1", TooMany("claims", 8)), (f"covered {far} 1", BadPlace("x0")),
-                (f"held 3 {far}", BadPlace("x0")), (f"either covered {far} 1 colour left {FAR} left 0 1", BadPlace("x0")),
+                (f"held 3 {far}", BadPlace("x0")), (f"either covered {far} 1 colour left {FAR} left 0 1",
+                                                    BadPlace("x0")),
                 (f"either colour left 0 right {FAR} 1 covered {far} 1", BadClaim("y"))):
             self.refused(error, read_claim, text)
             self.refused(BadText(0, len(text.split(" "))), read_claim, text + " ")

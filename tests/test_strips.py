@@ -4,7 +4,7 @@ import random
 import time
 
 from heldfloods.boxes import Box
-from heldfloods.deeds import Again, Copy, Fill, Flip, Flood, Frame, Grow, Swap, When
+from heldfloods.deeds import Again, Copy, Deed, Fill, Flip, Flood, Frame, Grow, Swap, When
 from heldfloods.edges import edges
 from heldfloods.errors import BadColour, BadPixel, BadSize, NoFlood, TooMany
 from heldfloods.pictures import Picture
@@ -39,6 +39,9 @@ def edges_or_none(axis, program):
 
 
 class Small(Case):
+    def test_a_deed_that_changes_nothing(self):
+        self.assertEqual(Strips(Program(Deed(), Fill(WHOLE, 2), Deed()), 4, 3), Strips(Program(Fill(WHOLE, 2)), 4, 3))
+
     def test_beside_the_pictures(self):
         for strips, program, rows in some_strips(41, 300):
             width, height = len(rows[0]), len(rows)

@@ -18,7 +18,8 @@ from tests.naive import Maker
 
 WHOLE = Box.whole()
 TWICE = Program(Fill(Box(3, 4, 0, from_right()), 1), Fill(Box(5, 6, 0, from_right()), 1), Flood(0, 0, 2))
-LONG = Program(Grow(1), Grow(2), Again(2, Swap(1, 2)), When(0, 0, 0, [Flood(0, 0, 1)]), Grow(3), Flood(0, 0, 1), Grow(4),
+LONG = Program(Grow(1), Grow(2), Again(2, Swap(1, 2)), When(0, 0, 0, [Flood(0, 0, 1)]), Grow(3), Flood(0, 0, 1),
+               Grow(4),
                Again(1, Again(0, Flood(0, 0, 3))), Grow(5), When(0, 0, 0, [], [Flood(1, 1, 1)]), Grow(6))
 WALLS = [0, 1, 2, 4, 6, 8, 10]
 
@@ -142,6 +143,7 @@ class Fewest(Case):
         far = Program(Again(9, Grow(1)), Again(9, Grow(1)), Flood(0, 0, 1))
         for value in no_programs():
             self.refused(BadProgram(0), fewest, value, None, None)
+            self.refused(BadProgram(0), chosen, value, [], [])
         for value in no_claims():
             self.refused(BadClaim("claim"), fewest, far, [2], value)
         self.refused(NoDeed(2), fewest, far, [2], NoneLeft(1))

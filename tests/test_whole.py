@@ -56,7 +56,8 @@ SIGNATURES = {
     texts: ["program_text(program)", "claim_text(claim)", "paper_text(paper)"],
     reader: ["read_program(text)", "read_claim(text)", "read_paper(text)"],
     desk: ["Desk()", "Desk.ask(self, line)", "Desk.run(self, *lines)", "Desk.titled(self, name)"],
-    errors: ["BadPlace(part)", "BadSize(part)", "BadColour(value)", "BadPixel(x, y)", "BadPicture(row)", "BadDeed(part)",
+    errors: ["BadPlace(part)", "BadSize(part)", "BadColour(value)", "BadPixel(x, y)", "BadPicture(row)",
+             "BadDeed(part)",
              "BadProgram(at)", "BadClaim(part)", "BadClass(part)", "TooMany(what, most)", "NoDeed(index)",
              "NoFlood(index)", "NoClass(value)", "Fails(width, height)", "Gap(x, y)", "BadText(line, word)",
              "NoName(name)", "NoRow(word)"],
@@ -77,9 +78,11 @@ def found_at(module, path):
 def things():
     """Objects of all classes with an equality of their own, no two of them equal."""
     box, other = Box(0, 1, 2, 3), Box(0, 1, 2, 4)
-    found = [Place(1, 0), Place(0, 1), Picture(["1"]), Picture(["0"]), box, other, Fill(box, 1), Fill(other, 1), Fill(box, 0),
+    found = [Place(1, 0), Place(0, 1), Picture(["1"]), Picture(["0"]), box, other, Fill(box, 1), Fill(other, 1),
+             Fill(box, 0),
              Frame(box, 1), Frame(box, 1, 2), Flood(1, 0, 1), Flood(0, 1, 1), Copy(box, 1, 0), Copy(box, 0, 1),
-             Flip("across"), Flip("down"), Swap(1, 0), Swap(0, 1), Grow(1), Grow(0), Again(1), Again(0), Again(1, Grow(1)),
+             Flip("across"), Flip("down"), Swap(1, 0), Swap(0, 1), Grow(1), Grow(0), Again(1), Again(0),
+             Again(1, Grow(1)),
              When(1, 0, 1, []), When(1, 0, 1, [Grow(1)]), When(1, 0, 1, [], [Grow(1)]), Program(), Program(Grow(1)),
              Program(Again(1)), Strips(Program(), 1, 2), Strips(Program(), 2, 1), ColourAt(1, 0, 1), ColourAt(0, 1, 1),
              NoneLeft(1), NoneLeft(0), Covered(box, 1), Covered(box, 0), Mirrored("across"), Mirrored("down"),
@@ -161,17 +164,21 @@ class Whole(Case):
             self.assertGreater(len(found), 0)
             found.clear()
             self.assertEqual(call(), kept)
-        for value in (program.deeds, canvas.columns, canvas.rows, canvas.regions(0)[0], table.titles, alike.needless(program),
+        for value in (program.deeds, canvas.columns, canvas.rows, canvas.regions(0)[0], table.titles,
+                      alike.needless(program),
                       player.regions_at(program, 2, 2, 0)[0], Picture(["1"]).region(0, 0), Picture(["1"]).rows):
             self.assertIs(type(value), tuple)
 
     def test_generators(self):
         claim = NoneLeft(1)
         for call, error in (
-                (lambda: player.frames(None, 1, 1), BadProgram(0)), (lambda: player.frames(FAR, 0, 0), BadSize("width")),
-                (lambda: classes.pairs(FAR), TooMany("edges", 60)), (lambda: judge.failing(FAR, claim), TooMany("edges", 60)),
+                (lambda: player.frames(None, 1, 1), BadProgram(0)),
+                (lambda: player.frames(FAR, 0, 0), BadSize("width")),
+                (lambda: classes.pairs(FAR), TooMany("edges", 60)),
+                (lambda: judge.failing(FAR, claim), TooMany("edges", 60)),
                 (lambda: alike.parting(FAR, None), BadProgram(1)), (lambda: floods.reaches(FAR, 1), NoFlood(1)),
-                (lambda: areas.area_sums(FAR, 10), BadColour(10)), (lambda: floods.reaches(FAR, 0), TooMany("edges", 60)),
+                (lambda: areas.area_sums(FAR, 10), BadColour(10)),
+                (lambda: floods.reaches(FAR, 0), TooMany("edges", 60)),
                 (lambda: areas.area_sums(FAR, 1), TooMany("edges", 60))):
             self.refused(error, lambda: next(call()))
         for found in (player.frames(Program(), 1, 1), classes.classes([]), classes.pairs(Program()),
@@ -183,19 +190,24 @@ class Whole(Case):
 
     def test_true_is_no_integer_and_lists_are_no_tuples(self):
         picture, canvas, program = Picture(["11"]), canvases.Canvas(2, 2), Program(Grow(1), Flood(1, 1, 1))
-        self.assertEqual([True in picture, True in Strips(program, 2, 2), True in Sizes(1), 1 in Sizes(1), True in program],
+        self.assertEqual([True in picture, True in Strips(program, 2, 2), True in Sizes(1), 1 in Sizes(1),
+                          True in program],
                          [False, False, False, True, False])
         for call, error in (
                 (lambda: Place(True, 0), errors.BadPlace("slope")), (lambda: Place(0, 0)(True), BadSize("size")),
-                (lambda: picture[True, 0], errors.BadPixel(True, 0)), (lambda: canvas[0, False], errors.BadPixel(0, False)),
+                (lambda: picture[True, 0], errors.BadPixel(True, 0)),
+                (lambda: canvas[0, False], errors.BadPixel(0, False)),
                 (lambda: picture.area(True), BadColour(True)), (lambda: Box(True, 0, 0, 0), errors.BadPlace("x0")),
                 (lambda: Frame(WHOLE, 1, True), BadDeed("thick")), (lambda: Again(True), BadDeed("times")),
                 (lambda: program[True], errors.NoDeed(True)), (lambda: program * True, BadDeed("times")),
                 (lambda: program.without(False), errors.NoDeed(False)), (lambda: Sizes(True), BadClass("low")),
-                (lambda: Held(True, WHOLE), errors.BadClaim("index")), (lambda: Strips(program, 1, True), BadSize("height")),
-                (lambda: floods.leak(program, False, WHOLE), NoFlood(False)), (lambda: areas.Sum(0, 0, 0, True), errors.BadClaim("d")),
+                (lambda: Held(True, WHOLE), errors.BadClaim("index")),
+                (lambda: Strips(program, 1, True), BadSize("height")),
+                (lambda: floods.leak(program, False, WHOLE), NoFlood(False)),
+                (lambda: areas.Sum(0, 0, 0, True), errors.BadClaim("d")),
                 (lambda: walls.chosen(program, [False], []), errors.NoDeed(False)),
-                (lambda: player.regions_at(program, True, 1, 0), BadSize("width")), (lambda: desk.Desk().titled(True), NoName(True))):
+                (lambda: player.regions_at(program, True, 1, 0), BadSize("width")),
+                (lambda: desk.Desk().titled(True), NoName(True))):
             self.refused(error, call)
         self.assertFalse(lookers.is_cover([], ((True, None), (2, None))))
         self.assertFalse(lookers.is_cover([], ([1, None], (2, None))))
@@ -206,7 +218,8 @@ class Whole(Case):
         canvas = canvases.Canvas(3, 2)
         canvas.fill(0, 2, 0, 1, 4)
         before = canvas.shown
-        for call in (lambda: canvas.fill(0, 3, 0, 2, 10), lambda: canvas.flood(0, 0, None), lambda: canvas.show(Picture(["1"])),
+        for call in (lambda: canvas.fill(0, 3, 0, 2, 10), lambda: canvas.flood(0, 0, None),
+                     lambda: canvas.show(Picture(["1"])),
                      lambda: setattr(canvas, "shown", Picture(["1"])), lambda: player.play(None, canvas)):
             self.assertRaises(HoldError, call)
             self.assertEqual(canvas.shown, before)
