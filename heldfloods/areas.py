@@ -90,11 +90,8 @@ def term_text(at, number, letters):
 def told_numbers(text):
     """The four numbers that are told by the terms of a text; None if these are no terms."""
     words = text.split(" ")
-    signs, terms = ["+", *words[1::2]], words[::2]
-    if len(signs) != len(terms):
-        return None
     found = {letters: 0 for letters in LETTERS}
-    for sign, term in zip(signs, terms):
+    for sign, term in zip(["+", *words[1::2]], words[::2]):
         ending = [letters for letters in LETTERS if term.endswith(letters)][0]
         number = told_number(term.removesuffix(ending), ending)
         if number is None or sign not in ("+", "-"):

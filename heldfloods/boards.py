@@ -75,7 +75,7 @@ class Board:
         return found & ~self.patch(at)
 
     def turned_colours(self, axis, at):
-        """The colours of the board flipped along an axis, by the pairs that stand at a number in the track."""
+        """The colours of the board flipped along an axis, by the shifts that stand at a number in the track."""
         if axis == "across":
             return gathered(self.colours, self.wide_track[at], self.down.every)
         return gathered(self.colours, self.high_track[at], self.across.every)
@@ -105,10 +105,10 @@ class Board:
         return [figures[y * stride:y * stride + wide] for y in range(high)]
 
 
-def gathered(signs, pairs, beside):
-    """What some pairs on an axis bring to their targets, in the rows, or columns, that are set on the other axis."""
+def gathered(signs, shifts, beside):
+    """What some shifts on an axis bring to their targets, in the rows, or columns, that are set on the other axis."""
     found = 0
-    for back, bits in pairs:
+    for back, bits in shifts:
         brought = signs >> back if back >= 0 else signs << -back
         found = found | brought & bits * beside
     return found

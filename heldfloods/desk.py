@@ -3,7 +3,7 @@
 from heldfloods.alike import alike, needless
 from heldfloods.claimreader import claim_of
 from heldfloods.claims import Claim
-from heldfloods.errors import BadText, HoldError, NoName, NoRow
+from heldfloods.errors import HoldError, NoName, NoRow
 from heldfloods.floods import leak
 from heldfloods.judge import judge, safe_from
 from heldfloods.programreader import program_of
@@ -159,9 +159,10 @@ def taken_values(words):
 
 
 def text_rows(words, many):
-    """The list of the words of each line of the text that stands behind so many words of a line of a desk."""
-    if len(words) == many:
-        raise BadText(0, many)
+    """The list of the words of each line of the text that stands behind so many words of a line of a desk.
+
+    If there is none, it is read as an empty one is: its first word is refused.
+    """
     rows, ahead = [], many
     for part in " ".join(words[many:]).split(" ; "):
         found = part.split(" ")

@@ -7,7 +7,7 @@ from heldfloods.checks import check_canvas
 from heldfloods.claims import Held
 from heldfloods.deeds import Flood
 from heldfloods.edges import edge_parts, ordered, values_at
-from heldfloods.errors import BadClaim, Fails, Gap, TooMany
+from heldfloods.errors import Fails, Gap, TooMany
 from heldfloods.grids import way_out
 from heldfloods.judge import No, judge
 from heldfloods.pictures import Picture
@@ -43,8 +43,7 @@ def leak(program, index, box):
     """The least canvas on which a flood leaks out of a box, with a shortest way there; None if it never leaks."""
     check_program(program, 0)
     check_flood(program, index)
-    if not isinstance(box, Box):
-        raise BadClaim("box")
+    # Held raises BadClaim for what is no box.
     verdict = judge(program, Held(index, box))
     if not isinstance(verdict, No):
         return None

@@ -43,7 +43,7 @@ class Ruler:
         return self.sums[self.numbers[last]] ^ self.sums[self.numbers[first]]
 
     def copied(self, begin, end, target):
-        """What it takes to copy from one place to another one to a target: the set of the target's cells, and pairs."""
+        """What it takes to copy from one place to another one to a target: the set of the target's cells, and shifts."""
         start = begin(self.size)
         by = target(self.size) - start
         first, last = clipped(start, end(self.size), self.size)
@@ -55,11 +55,11 @@ class Ruler:
         return self.between(first, last), self.sourced(at, sources)
 
     def turned(self):
-        """The pairs that flip all cells."""
+        """The shifts that flip all cells."""
         return self.sourced(0, [cell_at(self.ends, self.size - 1 - edge) for edge in self.ends[:-1]])
 
     def sourced(self, at, sources):
-        """Pairs that bring some cells to the cells from a number on.
+        """The shifts that bring some cells to the cells from a number on.
 
         Each tells how many bits ahead of a target its source is, and all bits of the targets for which this is so.
         """
