@@ -87,9 +87,13 @@ def swapped_rows(rows, one, other):
 def grown_rows(rows, colour):
     """The grid with a colour also at all neighbours of its pixels."""
     outside = MARK * len(rows[0])
-    above = [outside, *rows[:-1]]
-    below = [*rows[1:], outside]
-    return [grown_row(row, up, down, str(colour)) for row, up, down in zip(rows, above, below)]
+    threes = list(zip(rows, [outside, *rows[:-1]], [*rows[1:], outside]))
+    # Most pictures have few rows that differ, and each pixel of a row is looked at.
+    grown = {}
+    for three in threes:
+        if three not in grown:
+            grown[three] = grown_row(*three, str(colour))
+    return [grown[three] for three in threes]
 
 
 def grown_row(row, up, down, sign):
