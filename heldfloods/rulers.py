@@ -43,7 +43,7 @@ class Ruler:
         return self.sums[self.numbers[last]] ^ self.sums[self.numbers[first]]
 
     def copied(self, begin, end, target):
-        """What it takes to copy from one place to another one to a target: the set of the target's cells, and shifts."""
+        """What copies the cells from one place to another one to a target: the set of those there, and shifts."""
         start = begin(self.size)
         by = target(self.size) - start
         first, last = clipped(start, end(self.size), self.size)
