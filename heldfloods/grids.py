@@ -86,13 +86,13 @@ def swapped_rows(rows, one, other):
 
 def grown_rows(rows, colour):
     """The grid with a colour also at all neighbours of its pixels."""
-    outside = MARK * len(rows[0])
+    sign, outside = str(colour), MARK * len(rows[0])
     threes = list(zip(rows, [outside, *rows[:-1]], [*rows[1:], outside]))
     # Most pictures have few rows that differ, and each pixel of a row is looked at.
     grown = {}
     for three in threes:
         if three not in grown:
-            grown[three] = grown_row(*three, str(colour))
+            grown[three] = grown_row(*three, sign)
     return [grown[three] for three in threes]
 
 
