@@ -113,7 +113,7 @@ class Desk:
         if word == "show":
             return program_text(program).replace("\n", " ; ")
         if word == "paint":
-            return " / ".join(program(*values).rows)
+            return " / ".join(program(values[0], values[1]).rows)
         if word == "colour":
             x, y, width, height = values
             return str(Strips(program, width, height)[x, y])
