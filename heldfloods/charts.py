@@ -77,9 +77,13 @@ class Chart:
         """The set of the cells of some pixels of a canvas."""
         columns, rows = self.ends_on(width, height)
         step = self._down.known(height)[0].step
+        # A way may have far more pixels than the canvas has columns and rows.
+        known_x, known_y = {x: True for x, _ in pixels}, {y: True for _, y in pixels}
+        across = {at: cell_at(columns, at) * BITS for at in known_x}
+        down = {at: cell_at(rows, at) * step for at in known_y}
         found = 0
         for x, y in pixels:
-            found = found | 1 << cell_at(columns, x) * BITS + cell_at(rows, y) * step
+            found = found | 1 << across[x] + down[y]
         return found
 
     def ends_on(self, width, height):
