@@ -206,9 +206,9 @@ class Areas(Case):
             except TooMany:
                 continue
             many += 1
+            self.assertEqual(len(turned), len(found))
             for wide, high, told in found:
-                if (str(wide), str(high)) in turned:
-                    self.assertEqual(turned[str(wide), str(high)], told)
+                self.assertEqual(turned[str(wide), str(high)], told)
 
 
 class Refused(Case):
